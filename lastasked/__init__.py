@@ -1,0 +1,1 @@
+"""Lastasked: screens whose answers come late."""

@@ -1,0 +1,59 @@
+"""The interface: names, files, parameters by position and by name."""
+
+import inspect
+import unittest
+
+from lastasked import errors, moves, programs, stands
+from tests.helper import made
+
+LISTED = {
+    programs: {"Program": ["text"]},
+    stands: {"first_stand": ["program"], "shown": ["program", "stand"], "is_stand": ["program", "value"]},
+    moves: {"moves": ["program", "stand", "many"], "after": ["program", "stand", "move"]}}
+FIND = ("worths 2", "house", "  ask find", "    answer it", "screen", "  cell x 0", "  show x", "  deed type upto 1",
+        "    ask find it", "  answer find", "    set x it")
+
+
+class Interface(unittest.TestCase):
+    def test_defined_where_listed(self):
+        for module, names in LISTED.items():
+            for name, parameters in names.items():
+                with self.subTest(name):
+                    thing = getattr(module, name)
+                    self.assertEqual(thing.__module__, module.__name__)
+                    self.assertEqual(list(inspect.signature(thing).parameters), parameters)
+
+    def test_by_name(self):
+        program = programs.Program(text="\n".join(FIND))
+        stand = stands.first_stand(program=program)
+        self.assertEqual(stand, ((), (0,), (), ()))
+        self.assertEqual(stands.shown(program=program, stand=stand), (0,))
+        self.assertIs(stands.is_stand(program=program, value=stand), True)
+        self.assertEqual(moves.moves(program=program, stand=stand, many=1), (("deed", "type", 0), ("deed", "type", 1)))
+        behind = moves.after(program=program, stand=stand, move=("deed", "type", 1))
+        self.assertEqual(behind, ((), (0,), (), (("find", 1, "out", 0, "live", ()),)))
+
+    def test_named_errors(self):
+        program = made(*FIND)
+        stand = stands.first_stand(program)
+        with self.assertRaises(errors.BadText) as caught:
+            programs.Program(text=None)
+        self.assertEqual(caught.exception.line, 0)
+        with self.assertRaises(errors.BadMany) as caught:
+            moves.moves(program=program, stand=stand, many=5)
+        self.assertEqual(caught.exception.value, 5)
+        with self.assertRaises(errors.NoMove) as caught:
+            moves.after(program=program, stand=stand, move=None)
+        self.assertIsNone(caught.exception.value)
+
+    def test_properties_are_set(self):
+        program = made(*FIND)
+        for name in ("text", "worths", "in_order", "house", "asks", "cells", "shows", "deeds"):
+            self.assertTrue(hasattr(program, name), name)
+        for name in ("house", "asks", "cells", "shows", "deeds"):
+            self.assertIsInstance(getattr(program, name), tuple, name)
+        self.assertIs(program.in_order, False)
+
+
+if __name__ == "__main__":
+    unittest.main()
