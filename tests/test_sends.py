@@ -337,8 +337,7 @@ class Rising(Told):
         stand = self.begin(program, task(1, "out"), answered(2, "passed"), task(3, "out"))
         self.tasks([task(1, "out"), task(3, "out")], behind(program, comes(1), stand=stand))
 
-    def test_ahead_of_its_handler(self):
-        # The handler calls all of load off, and asks it anew: what was passed is not asked for any more.
+    def test_its_handler_can_call_those_off_that_it_passed(self):
         program = made("worths 4", "house", "  ask save", "    answer it", "  ask load", "screen", "  cell c 0", "  show c",
                        "  take save rising", "  deed go upto 3", "    ask save it", "  answer save", "    off save")
         stand = behind(program, deed("go", 1), deed("go", 2), does(1), comes(1))
