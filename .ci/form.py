@@ -95,8 +95,15 @@ def faults_of_imports(tree):
                 yield node.lineno, "L2 an import from outside"
 
 
+def is_own_handler(handler, own):
+    """Whether it catches one error of the package, by name, and does not keep it."""
+    return isinstance(handler.type, ast.Name) and handler.type.id in own and handler.name is None
+
+
 def faults_of_nodes(tree, methods):
     """What stands in statements and values."""
+    own = [alias.name for node in tree.body if isinstance(node, ast.ImportFrom) and node.module == f"{PACKAGE}.errors"
+           for alias in node.names]
     docs = [node.body[0].value for node in ast.walk(tree)
             if isinstance(node, (ast.Module, ast.FunctionDef, ast.ClassDef)) and ast.get_docstring(node) is not None]
     for node in ast.walk(tree):
@@ -118,7 +125,7 @@ def faults_of_nodes(tree, methods):
             yield node.lineno, f"L26 an attribute {node.attr}"
         if isinstance(node, ast.Call) and isinstance(node.func, ast.Attribute) and node.func.attr not in METHODS | methods:
             yield node.lineno, f"L25 a call of {node.func.attr}"
-        if isinstance(node, ast.Try):
+        if isinstance(node, ast.Try) and (node.finalbody or not all(is_own_handler(row, own) for row in node.handlers)):
             yield node.lineno, "L19 look at this try"
         if isinstance(node, (ast.For, ast.comprehension)) and isinstance(node.iter, (ast.Set, ast.SetComp)):
             yield 1, "L24 a set is iterated"

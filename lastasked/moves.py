@@ -1,28 +1,28 @@
 """Moves: what can happen at a stand, and the stand behind it."""
 
-from lastasked.errors import BadMany, NoMove
+from lastasked.checks import check_many, is_deed
+from lastasked.errors import NoMove
 from lastasked.houses import do_ask
 from lastasked.screens import Screen, pass_by
-from lastasked.values import is_below, is_integer, is_row, is_word
+from lastasked.values import is_below, is_row, is_word
 
-MOST_MANY = 4
 TASK_WORDS = ("sends", "does", "comes", "gone")
 
 
 def moves(program, stand, many):
     """All possible moves, ascending."""
-    if not is_integer(many) or not 1 <= many <= MOST_MANY:
-        raise BadMany(many)
+    check_many(many)
     found = []
     for name, upto in program.deeds:
         for it in range(upto + 1):
             if len(after_deed(program, stand, name, it).tasks) <= many:
                 found.append(("deed", name, it))
-    for n in range(len(stand[3])):
-        for word in TASK_WORDS:
-            if can_move(program, stand[3], word, n):
-                found.append((word, n))
-    return tuple(sorted(found))
+    return tuple(sorted(found + task_moves(program, stand[3])))
+
+
+def task_moves(program, tasks):
+    """All possible moves that are no deeds."""
+    return [(word, n) for n in range(len(tasks)) for word in TASK_WORDS if can_move(program, tasks, word, n)]
 
 
 def after(program, stand, move):
@@ -38,9 +38,8 @@ def after(program, stand, move):
 
 def is_possible(program, stand, value):
     """Whether any value is a move that is possible here, with as many tasks as it needs."""
-    if is_row(value, 3) and value[0] == "deed":
-        _, name, it = value
-        return is_word(name, program.hands) and is_below(it, program.hands[name][0] + 1)
+    if is_row(value, 3):
+        return is_deed(program, value)
     if is_row(value, 2) and is_word(value[0], TASK_WORDS):
         word, n = value
         return is_below(n, len(stand[3])) and can_move(program, stand[3], word, n)

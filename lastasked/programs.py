@@ -11,8 +11,10 @@ class Program:
     """What the text of a program tells. Beside the properties of the document it has:
 
     works: {ask: statements of the house}; takes, sends, keeps: {ask: word}; firsts: {cell: first worth};
-    backs: {cell: word}; unsure: a tuple of (cell, worth); hands: {deed: (upto, statements)};
-    handlers: {("answer" or "refused", ask): statements}; over: statements.
+    backs: {cell: word}; choices: {"take": takes, "send": sends, "keep": keeps, "back": backs};
+    unsure: a tuple of (cell, worth); hands: {deed: (upto, statements)};
+    handlers: {("answer" or "refused", ask): statements}; over: statements;
+    keeping: the asks that keep answers; redone: the cells that are rows.
     """
 
     def __init__(self, text):
@@ -28,6 +30,8 @@ class Program:
         self.asks = tuple([(name, self.takes[name], self.sends[name], self.keeps[name]) for name in names])
         self.cells = tuple([(name, self.firsts[name], self.backs[name]) for name in list(self.firsts)])
         self.deeds = tuple([(name, self.hands[name][0]) for name in list(self.hands)])
+        self.keeping = [name for name in names if self.keeps[name] != "none"]
+        self.redone = [name for name in list(self.backs) if self.backs[name] == "redone"]
 
     def _read_house(self, lines):
         lines.need(read_line(lines, 0, ["house"]))
@@ -43,10 +47,8 @@ class Program:
         cells = list(self.firsts)
         self.shows = read_shows(lines, cells)
         self.unsure = read_unsure(lines, self.worths, cells)
-        self.takes = read_choices(lines, "take", asks, ("last", "rising"), "any")
-        self.sends = read_choices(lines, "send", asks, ("one", "latest", "queued", "resting"), "many")
-        self.keeps = read_choices(lines, "keep", asks, ("only", "both"), "none")
-        self.backs = read_choices(lines, "back", cells, ("redone",), "kept")
+        self.choices = read_choices(lines, asks, cells)
+        self.takes, self.sends, self.keeps, self.backs = list(self.choices.values())
         self.hands, self.handlers, self.over = read_screen_handlers(lines, self.worths, cells, asks)
 
     def __eq__(self, other):

@@ -10,6 +10,10 @@ MOST_UNSURE = 2
 MOST_DEEDS = 3
 MOST_ASKS_OF_DEED = 2
 MOST_ASKS_OF_OTHERS = 1
+# The lines that choose a word for an ask or a cell, in their sequence: what is there without such a line stands last.
+CHOICE_LINES = (
+    ("take", ("last", "rising"), "any"), ("send", ("one", "latest", "queued", "resting"), "many"),
+    ("keep", ("only", "both"), "none"), ("back", ("redone",), "kept"))
 
 
 def read_first_line(lines):
@@ -76,7 +80,15 @@ def read_unsure(lines, worths, cells):
     return tuple(unsure)
 
 
-def read_choices(lines, word, names, choices, plain):
+def read_choices(lines, asks, cells):
+    """The take, send, keep and back lines, as {word: {name: choice}}."""
+    found = {}
+    for word, choices, plain in CHOICE_LINES:
+        found[word] = read_choices_of(lines, word, cells if word == "back" else asks, choices, plain)
+    return found
+
+
+def read_choices_of(lines, word, names, choices, plain):
     """The lines that begin with this word, as {name: choice}: plain for each name without a line."""
     found = {name: plain for name in names}
     left = list(names)

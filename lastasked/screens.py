@@ -19,7 +19,10 @@ class Task:
 
 
 class Screen:
-    """A stand that changes. In its rows n is the number of a task."""
+    """A stand that changes. In its rows n is the number of a task.
+
+    done_alike tells what was done to all tasks that were there then: ("passed" or "off", ask), ("anew", "").
+    """
 
     def __init__(self, program, stand):
         self.program = program
@@ -27,13 +30,21 @@ class Screen:
         # Numbers begin with the places, so the rows can be taken as they are.
         self.tasks = [task_at(n, tasks[n]) for n in range(len(tasks))]
         self.made = len(tasks)
-        self.cells = {row[0]: cell for row, cell in zip(program.cells, cells)}
-        keeping = [ask for ask in list(program.keeps) if program.keeps[ask] != "none"]
-        self.stores = {ask: dict(store) for ask, store in zip(keeping, stores)}
+        self.cells = dict(zip(program.firsts, cells))
+        self.stores = {ask: dict(store) for ask, store in zip(program.keeping, stores)}
         self.waiting = []
+        self.done_alike = []
 
     def as_stand(self):
         """The stand as it is now."""
+        stores = [tuple(sorted(list(store.items()))) for store in list(self.stores.values())]
+        tasks = [self._told(task) for task in self.tasks]
+        return self.house, self._told_cells(), tuple(stores), tuple(tasks)
+
+    def _told_cells(self):
+        """The cells with the places of tasks, in the place of their numbers."""
+        if len(self.program.redone) == 0:
+            return tuple(self.cells.values())
         places = {self.tasks[n].number: n for n in range(len(self.tasks))}
         places[SURE] = SURE
         cells = []
@@ -41,12 +52,12 @@ class Screen:
             if not isinstance(cell, int):
                 cell = (cell[0], tuple([(word, worth, places[n]) for word, worth, n in cell[1]]))
             cells.append(cell)
-        stores = [tuple(sorted(list(store.items()))) for store in list(self.stores.values())]
-        tasks = [self._told(task) for task in self.tasks]
-        return self.house, tuple(cells), tuple(stores), tuple(tasks)
+        return tuple(cells)
 
     def _told(self, task):
-        guesses = tuple([(cell, task.guesses[cell]) for cell in list(self.cells) if cell in task.guesses])
+        guesses = ()
+        if len(task.guesses) > 0:
+            guesses = tuple([(cell, task.guesses[cell]) for cell in list(self.cells) if cell in task.guesses])
         return task.ask, task.worth, task.phase, task.answer, task.mark, guesses
 
     def handle(self, block, it, asked):
@@ -82,6 +93,7 @@ class Screen:
         self.cells = {name: first_cell(first, back) for name, first, back in self.program.cells}
         for task in self.tasks:
             task.guesses = {}
+        self.done_alike.append(("anew", ""))
 
     def forget(self, ask):
         """Empty what is stored of an ask."""
@@ -97,12 +109,17 @@ class Screen:
         """The tasks of an ask that are not off."""
         return [task for task in self.tasks if task.ask == ask and task.mark != "off"]
 
+    def pass_all(self, ask):
+        """Let all tasks of an ask be passed, unless off."""
+        pass_by(self.tasks_there(ask))
+        self.done_alike.append(("passed", ask))
+
     def make_ask(self, ask, worth, guesses):
         """Ask as keep and send of this ask tell."""
         if worth in self.stores.get(ask, {}):
             self.waiting.append((ask, worth, self.stores[ask][worth]))
             if self.program.takes[ask] != "any":
-                pass_by(self.tasks_there(ask))
+                self.pass_all(ask)
             if self.program.keeps[ask] == "only":
                 for name, word, much in guesses:
                     self.guess(name, word, much, SURE)
@@ -123,7 +140,7 @@ class Screen:
         task = Task(self.made, ask, worth, phase)
         self.made += 1
         if self.program.takes[ask] == "last":
-            pass_by(self.tasks_there(ask))
+            self.pass_all(ask)
         self.put(task)
         for name, word, much in guesses:
             if isinstance(self.cells[name], int):
@@ -171,6 +188,7 @@ class Screen:
                 self.take_back(task)
                 task.mark = "off"
         self.tasks = [task for task in self.tasks if task.ask != ask or task.phase == "out"]
+        self.done_alike.append(("off", ask))
 
 
 def task_at(place, value):

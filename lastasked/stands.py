@@ -11,13 +11,18 @@ def first_stand(program):
     """The stand ahead of all moves."""
     house = tuple([worth for _, worth in program.house])
     cells = tuple([first_cell(first, back) for _, first, back in program.cells])
-    return house, cells, tuple([() for _ in range(count_stores(program))]), ()
+    return house, cells, tuple([() for _ in program.keeping]), ()
 
 
 def shown(program, stand):
     """The worths of the shown cells; None if the screen is unsure."""
+    return picture(program, stand[1])
+
+
+def picture(program, cells):
+    """What is shown with these cells, in their sequence: worths or rows."""
     worths = {}
-    for row, cell in zip(program.cells, stand[1]):
+    for row, cell in zip(program.cells, cells):
         worths[row[0]] = cell if isinstance(cell, int) else worth_of_row(cell, program.worths)
     for name, worth in program.unsure:
         if worths[name] == worth:
@@ -35,11 +40,6 @@ def is_stand(program, value):
     return is_tasks(program, tasks) and is_cells(program, cells, tasks) and is_stores(program, stores)
 
 
-def count_stores(program):
-    """How many asks keep answers."""
-    return len([ask for ask in list(program.keeps) if program.keeps[ask] != "none"])
-
-
 def is_worths(value, length, worths):
     """Whether this is a tuple of so many worths."""
     return is_row(value, length) and all([is_below(worth, worths) for worth in value])
@@ -47,7 +47,7 @@ def is_worths(value, length, worths):
 
 def is_stores(program, stores):
     """Whether this is a store for each ask that keeps answers."""
-    if not is_row(stores, count_stores(program)):
+    if not is_row(stores, len(program.keeping)):
         return False
     return all([is_store(store, program.worths) for store in stores])
 

@@ -19,3 +19,17 @@ def is_word(value, words):
 def is_row(value, length):
     """Whether this is a tuple of so many values."""
     return isinstance(value, tuple) and len(value) == length
+
+
+def is_ascending(values):
+    """Whether these, which can be compared, are sorted and without duplicates."""
+    return all([values[n - 1] < values[n] for n in range(1, len(values))])
+
+
+def is_same(value, told):
+    """Whether any value is this one, of tuples, strings, integers, bools and None; no bool is an integer."""
+    if isinstance(told, tuple):
+        return is_row(value, len(told)) and all([is_same(part, other) for part, other in zip(value, told)])
+    if isinstance(value, tuple) or isinstance(value, bool) != isinstance(told, bool):
+        return False
+    return value == told

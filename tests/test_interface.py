@@ -3,13 +3,20 @@
 import inspect
 import unittest
 
-from lastasked import errors, moves, programs, stands
+from lastasked import errors, guards, led, moments, moves, plain, programs, rests, stands
 from tests.helper import made
 
 LISTED = {
     programs: {"Program": ["text"]},
     stands: {"first_stand": ["program"], "shown": ["program", "stand"], "is_stand": ["program", "value"]},
-    moves: {"moves": ["program", "stand", "many"], "after": ["program", "stand", "move"]}}
+    moves: {"moves": ["program", "stand", "many"], "after": ["program", "stand", "move"]},
+    plain: {"plain_first": ["program"], "plain_after": ["program", "plain", "name", "it"], "plain_shown": ["program", "plain"]},
+    led: {"led": ["program", "many", "story"]},
+    rests: {"rests": ["program", "many", "*houses", "*deeds"], "shows_rests": ["program", "many", "value", "*houses", "*deeds"]},
+    moments: {"moments": ["program", "many", "*deeds"], "shows_moments": ["program", "many", "value", "*deeds"]},
+    guards: {"with_guards": ["program", "guards"], "guarded": ["program", "offers", "many", "looks", "*deeds"],
+             "shows_guarded": ["program", "offers", "many", "looks", "value", "*deeds"]}}
+DEFAULTS = {"houses": False, "deeds": None, "hands": True}
 FIND = ("worths 2", "house", "  ask find", "    answer it", "screen", "  cell x 0", "  show x", "  deed type upto 1",
         "    ask find it", "  answer find", "    set x it")
 
@@ -21,7 +28,12 @@ class Interface(unittest.TestCase):
                 with self.subTest(name):
                     thing = getattr(module, name)
                     self.assertEqual(thing.__module__, module.__name__)
-                    self.assertEqual(list(inspect.signature(thing).parameters), parameters)
+                    told = []
+                    for parameter in inspect.signature(thing).parameters.values():
+                        by_name = parameter.kind is parameter.KEYWORD_ONLY
+                        told.append("*" * by_name + parameter.name)
+                        self.assertIs(parameter.default, DEFAULTS[parameter.name] if by_name else parameter.empty)
+                    self.assertEqual(told, parameters)
 
     def test_by_name(self):
         program = programs.Program(text="\n".join(FIND))

@@ -108,6 +108,9 @@ def changed(value):
     elif type(value) is int:
         yield from (n for n in range(-3, 8) if n != value)
         yield from (bool(value), not value, None, str(value), (value,), [value], {value: value}, ())
+    elif value is None or type(value) is bool:
+        yield from (other for other in (True, False, None) if other is not value)
+        yield from (0, 1, -1, str(value), (value,), [value], {0: value}, ())
     else:
         yield from ("", "held", "out", "answered", "refused", "live", "passed", "off", "set", "add", "one", "late", "rest", "a", "b",
                     "c", "d", "nothing", value + " ", value.upper(), None, 0, True, (value,), [value], {value: 0})

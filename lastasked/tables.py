@@ -1,0 +1,68 @@
+"""Tables and stories of a look: how they are found, and whether any value is one."""
+
+from lastasked.errors import TooMany
+from lastasked.values import is_ascending, is_row
+
+MOST_MEMBERS = 6000
+
+
+def explore(look):
+    """({member: (the one ahead of it, move), None for a first one}, the first wrong member or None).
+
+    Members come level by level, so the moves that led to one are of the fewest. If none is wrong, all have come.
+    """
+    ways = {member: None for member in look.beginnings()}
+    level = list(ways)
+    while len(level) > 0:
+        # What is wrong from here on takes one move more than all these members.
+        if len(ways) > MOST_MEMBERS:
+            raise TooMany(MOST_MEMBERS)
+        following = []
+        for member in level:
+            for move, behind in look.nexts(member):
+                if behind in ways:
+                    continue
+                ways[behind] = (member, move)
+                if look.word_at(behind) != "":
+                    return ways, behind
+                following.append(behind)
+        level = following
+    return ways, None
+
+
+def search(look):
+    """("right", table), or ("wrong", story, word) with a story of fewest moves."""
+    ways, wrong = explore(look)
+    if wrong is None:
+        return "right", tuple(sorted([look.told(member) for member in list(ways)]))
+    return "wrong", story_to(ways, wrong), look.word_at(wrong)
+
+
+def story_to(ways, member):
+    """The moves that led to a member."""
+    story = []
+    while ways[member] is not None:
+        member, move = ways[member]
+        story.append(move)
+    return tuple(story[::-1])
+
+
+def is_right_table(look, value):
+    """Whether any value is a closed table of this look without a wrong member."""
+    if not isinstance(value, tuple):
+        return False
+    members = [look.taken(part) for part in value]
+    if None in members or not is_ascending(value):
+        return False
+    there = {member: True for member in members}
+    if not all([member in there for member in look.beginnings()]):
+        return False
+    for member in members:
+        if look.word_at(member) != "" or not all([behind in there for _, behind in look.nexts(member)]):
+            return False
+    return True
+
+
+def is_right_result(look, value):
+    """Whether any value is ("right", table) of this look."""
+    return is_row(value, 2) and value[0] == "right" and is_right_table(look, value[1])
