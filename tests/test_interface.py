@@ -3,7 +3,8 @@
 import inspect
 import unittest
 
-from lastasked import errors, guards, led, moments, moves, plain, programs, rests, stands
+from lastasked import (
+    counting, errors, fronts, guards, lasting, led, moments, moves, plain, programs, rests, stands)
 from tests.helper import made
 
 LISTED = {
@@ -14,8 +15,12 @@ LISTED = {
     led: {"led": ["program", "many", "story"]},
     rests: {"rests": ["program", "many", "*houses", "*deeds"], "shows_rests": ["program", "many", "value", "*houses", "*deeds"]},
     moments: {"moments": ["program", "many", "*deeds"], "shows_moments": ["program", "many", "value", "*deeds"]},
+    counting: {"ever": ["program"], "shows_ever": ["program", "value"], "least_many": ["program", "many"],
+               "shows_least_many": ["program", "many", "value"]},
+    lasting: {"lasting": ["program", "many", "*hands"], "shows_lasting": ["program", "many", "value", "*hands"]},
     guards: {"with_guards": ["program", "guards"], "guarded": ["program", "offers", "many", "looks", "*deeds"],
-             "shows_guarded": ["program", "offers", "many", "looks", "value", "*deeds"]}}
+             "shows_guarded": ["program", "offers", "many", "looks", "value", "*deeds"]},
+    fronts: {"front": ["program", "offers", "many", "looks"], "shows_front": ["program", "offers", "many", "looks", "value"]}}
 DEFAULTS = {"houses": False, "deeds": None, "hands": True}
 FIND = ("worths 2", "house", "  ask find", "    answer it", "screen", "  cell x 0", "  show x", "  deed type upto 1",
         "    ask find it", "  answer find", "    set x it")
