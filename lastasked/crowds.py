@@ -83,9 +83,12 @@ class Crowd:
         """(body, bounds, what is shown, way) behind all moves of the members with these, each once."""
         key = (body, bounds)
         if key not in self.found_steps:
-            found = [self.step_with(bounds, None, effect) for effect in self.effects_of(body, None)]
-            for mover, _ in bounds:
-                found.extend([self.step_with(bounds, mover, effect) for effect in self.effects_of(body, mover)])
+            effects = self.found_effects.setdefault(body, {})
+            found = []
+            for mover in [None] + [task for task, _ in bounds]:
+                if mover not in effects:
+                    effects[mover] = self.effects_of(body, mover)
+                found.extend([self.step_with(bounds, mover, effect) for effect in effects[mover]])
             self.found_steps[key] = list({step: True for step in found})
         return self.found_steps[key]
 
@@ -125,21 +128,18 @@ class Crowd:
         Each is (body, tasks behind it that are not single, what was done alike, what is shown, way). Other tasks that
         are not single neither hinder a move nor change what it does.
         """
-        key = (body, mover)
-        if key not in self.found_effects:
-            house, cells, stores, singles, plain = body
-            tasks = arranged(singles, [] if mover is None else [mover])
-            stand = (house, cells, stores, tuple(tasks))
-            found = []
-            if mover is None:
-                for move in self.course.hands:
-                    screen = after_deed(self.program, stand, move[1], move[2])
-                    found.append(self.effect_of(screen, self.course.plain_behind(plain, move)))
-            for word, n in task_moves(self.program, tasks):
-                if mover is None or tasks[n] == mover:
-                    found.append(self.effect_of(after_task(self.program, stand, word, n), (plain, ())))
-            self.found_effects[key] = found
-        return self.found_effects[key]
+        house, cells, stores, singles, plain = body
+        tasks = arranged(singles, [] if mover is None else [mover])
+        stand = (house, cells, stores, tuple(tasks))
+        found = []
+        if mover is None:
+            for move in self.course.hands:
+                screen = after_deed(self.program, stand, move[1], move[2])
+                found.append(self.effect_of(screen, self.course.plain_behind(plain, move)))
+        for word, n in task_moves(self.program, tasks):
+            if mover is None or tasks[n] == mover:
+                found.append(self.effect_of(after_task(self.program, stand, word, n), (plain, ())))
+        return found
 
     def effect_of(self, screen, plain_behind):
         """What a move has done to the screen; plain_behind is the plain stand behind it, and the way."""
@@ -152,18 +152,17 @@ class Crowd:
 
 
 def kind_behind(task, alike):
-    """What becomes of a task by what was done to all alike; None if it is gone."""
+    """What becomes of a task that is not single by what was done to all alike; None if it is gone.
+
+    To be passed changes none: with take last a live one is single.
+    """
     for word, ask in alike:
         if word == "anew":
             task = task[:5] + ((),)
-        elif task[0] != ask or task[4] == "off":
-            continue
-        elif word == "passed":
-            task = task[:4] + ("passed", task[5])
-        elif task[2] == "out":
-            task = task[:4] + ("off", ())
-        else:
+        elif task[0] == ask and task[2] != "out":
             return None
+        elif task[0] == ask:
+            task = task[:4] + ("off", ())
     return task
 
 
@@ -183,12 +182,12 @@ class Rows:
         """Put a row among them, in the place of those that lie in it."""
         control, bounds = row
         others = self.found.setdefault(control, {})
-        if bounds in others or any([lies_in(bounds, many) for many in others.values()]):
+        if bounds in others or any([lies_in(bounds, other) for other in others.values()]):
             return
         many = dict(bounds)
-        beaten = [other for other in others if lies_in(other, many)]
-        for other in beaten:
-            del others[other]
+        beaten = [less for less in others if lies_in(less, many)]
+        for less in beaten:
+            del others[less]
         others[bounds] = many
         self.made += 1
         heappush(self.left, (-self.size_of(bounds), self.made, row))

@@ -21,7 +21,7 @@ class Task:
 class Screen:
     """A stand that changes. In its rows n is the number of a task.
 
-    done_alike tells what was done to all tasks that were there then: ("passed" or "off", ask), ("anew", "").
+    done_alike tells what was done to all tasks that were there then: ("off", ask) or ("anew", "").
     """
 
     def __init__(self, program, stand):
@@ -109,17 +109,12 @@ class Screen:
         """The tasks of an ask that are not off."""
         return [task for task in self.tasks if task.ask == ask and task.mark != "off"]
 
-    def pass_all(self, ask):
-        """Let all tasks of an ask be passed, unless off."""
-        pass_by(self.tasks_there(ask))
-        self.done_alike.append(("passed", ask))
-
     def make_ask(self, ask, worth, guesses):
         """Ask as keep and send of this ask tell."""
         if worth in self.stores.get(ask, {}):
             self.waiting.append((ask, worth, self.stores[ask][worth]))
             if self.program.takes[ask] != "any":
-                self.pass_all(ask)
+                pass_by(self.tasks_there(ask))
             if self.program.keeps[ask] == "only":
                 for name, word, much in guesses:
                     self.guess(name, word, much, SURE)
@@ -140,7 +135,7 @@ class Screen:
         task = Task(self.made, ask, worth, phase)
         self.made += 1
         if self.program.takes[ask] == "last":
-            self.pass_all(ask)
+            pass_by(self.tasks_there(ask))
         self.put(task)
         for name, word, much in guesses:
             if isinstance(self.cells[name], int):

@@ -58,12 +58,13 @@ class Ever(Told):
     def test_wrong(self):
         self.assertEqual(self.told(made(*FIND))[1:], (ever(made(*FIND))[1], "elder"))
         self.assertEqual(len(ever(made(*FIND))[1]), 4)
+        self.assertEqual([moments(made(*FIND), many)[0] for many in (1, 2, 3, 4)], ["right"] + ["wrong"] * 3)
 
     def test_right(self):
         for rows in (LAST, BOX, OFF, ONE):
             found = self.told(made(*rows))
             self.assertEqual(found[0], "right")
-            for many in (1, 2):
+            for many in (1, 2, 3, 4) if rows in (BOX, ONE) else (1, 2):
                 self.assertEqual(moments(made(*rows), many)[0], "right")
 
     def test_rows(self):
@@ -103,6 +104,28 @@ class Ever(Told):
             found = self.told(program)
             self.assertEqual(found[0], "right")
             self.assertEqual({bound for _, bounds in found[1] for _, bound in bounds}, wanted)
+
+    def test_the_first_number_that_is_enough(self):
+        # Of one ask two are wanted, of the other one there are three at most, which is any number for c = 2.
+        program = made("worths 4", "house", "  ask find", "  ask more", "screen", "  cell k 0", "  cell m 0", "  cell x 0", "  cell y 0", "  show y",
+                       "  deed go", "    if x = 2", "      set x x", "    else", "      ask find 0", "      add x 1", "  deed run", "    if k = 3",
+                       "      set k k", "    else", "      ask more 0", "      add k 1", "  answer find", "    if m = 2", "      set y 1", "    else",
+                       "      add m 1")
+        found = self.told(program)
+        self.assertEqual({(task[0], bound) for _, bounds in found[1] for task, bound in bounds},
+                         {("find", 1), ("find", 2), ("more", 0), ("more", 1), ("more", 2)})
+
+    def test_one_more_than_any_number(self):
+        # Behind the deed last there are no more asks: any number of them are left, and this one.
+        program = made("worths 2", "house", "  ask find", "screen", "  cell k 0", "  cell y 0", "  show y", "  deed go", "    if k = 0",
+                       "      ask find 0", "  deed last", "    if k = 0", "      ask find 0", "      set k 1")
+        found = self.told(program)
+        self.assertEqual({bound for control, bounds in found[1] if control[1] == (1, 0) for _, bound in bounds}, {0})
+        for task in ("out", "answered"):
+            less = tuple(sorted((control, tuple((sort, 3 if control[1] == (1, 0) and sort[2] == task else bound) for sort, bound in bounds))
+                                for control, bounds in found[1]))
+            self.assertIs(shows_ever(program, ("right", less)), False)
+            self.assertIs(judge_rows(program, less), False)
 
     def test_none_of_the_looks_tells(self):
         found = self.told(countdown(4))
@@ -219,6 +242,26 @@ class ManyRows(unittest.TestCase):
                         else:
                             self.assertEqual(ever(program), found)
 
+    def test_rows_that_are_wrong_may_be_more(self):
+        # Those for c = 1 come to more controls than rows are told, but at last to a wrong one: by an ask that is done 15 times.
+        program = made("worths 4", "house", "  cell n 0", "  cell h 0", "  ask find", "    add n 1", "    if n = 0", "      add h 1",
+                       "    if h = 3", "      if n = 3", "        answer 3", "screen", "  cell x 0", "  cell y 0", "  show y", "  deed go",
+                       "    if x = 2", "      set x x", "    else", "      ask find 0", "      add x 1", "  answer find", "    if it = 3",
+                       "      set y 1")
+        found = ever(program)
+        self.assertEqual([found[0], second_rows(program, 1)], ["right", "wrong"])
+        self.assertEqual(found[1], second_rows(program, 2))
+        with mock.patch("lastasked.counting.MOST_MEMBERS", len(found[1])):
+            self.assertEqual(ever(program), found)
+            # Moments with many = 1 is right then, with many = 2 it would come to too many, but the rows ahead of it are told.
+            with mock.patch("lastasked.tables.MOST_MEMBERS", len(moments(program, 1)[1])):
+                with self.assertRaises(TooMany):
+                    moments(program, 2)
+                self.assertEqual(ever(program), found)
+        with mock.patch("lastasked.counting.MOST_MEMBERS", len(found[1]) - 1):
+            with self.assertRaises(TooMany):
+                ever(program)
+
     def test_of_moments_too(self):
         # Rows are wrong with c = 1, so moments with many = 1 is asked, and comes to too many.
         for many in (1, 2, 3):
@@ -326,6 +369,23 @@ class ShowsEver(unittest.TestCase):
             if bounds:
                 row = control[:3] + (tuple(sorted(control[3] + (bounds[0][0],))),) + control[4:], bounds[1:]
                 self.told(False, program, ("right", tuple(sorted(table[:n] + (row,) + table[n + 1:]))))
+
+    def test_more_rows_of_another_form(self):
+        # What comes behind these is there, but a single task is no bound, and another one is no single task.
+        program = made(*LAST)
+        table = ever(program)[1]
+        for control, bounds in table[::4]:
+            if control[3]:
+                row = control[:3] + ((),) + control[4:], tuple(sorted(bounds + ((control[3][0], 1),)))
+                self.told(False, program, ("right", tuple(sorted(table + (row,)))))
+        program = made(*BOX)
+        table = ever(program)[1]
+        for control, bounds in table:
+            for task, _ in bounds:
+                for less in (bounds, ()):
+                    row = control[:3] + ((task,),) + control[4:], less
+                    self.told(False, program, ("right", tuple(sorted(table + (row,)))))
+                self.told(True, program, ("right", tuple(sorted(table + ((control, ((task, 4),)),)))))
 
     def test_wrong_rows(self):
         still = made("worths 2", "house", "  ask find", "screen", "  cell x 0", "  show x", "  deed go", "    set x x")

@@ -118,7 +118,9 @@ class Rests(Told):
             self.assertEqual(repr(rests(program, 2)), repr(rests(made(*program.text.split("\n")), 2)))
 
     def test_by_name(self):
-        self.assertEqual(rests(program=HOUSE, many=2, houses=True, deeds=None), rests(HOUSE, 2, houses=True))
+        found = rests(program=HOUSE, many=2, houses=True, deeds=None)
+        self.assertEqual(found, rests(HOUSE, 2, houses=True))
+        self.assertIs(shows_rests(program=HOUSE, many=2, value=found, houses=True, deeds=None), True)
         with self.assertRaises(TypeError):
             rests(HOUSE, 2, True)
         with self.assertRaises(TypeError):
