@@ -14,6 +14,7 @@ class PlainScreen(Screen):
     def __init__(self, program, plain):
         house, cells = plain
         super().__init__(program, (house, tuple([(worth, ()) for worth in cells]), (), ()))
+        self.row_names = list(program.firsts)
 
     def picture_now(self):
         """What is shown now."""

@@ -19,7 +19,7 @@ class Task:
 
 
 class Screen:
-    """A stand that changes. In its rows n is the number of a task.
+    """A stand that changes. In its rows n is the number of a task. row_names: the cells that are rows.
 
     done_alike tells what was done to all tasks that were there then: ("off", ask) or ("anew", "").
     """
@@ -32,6 +32,7 @@ class Screen:
         self.made = len(tasks)
         self.cells = dict(zip(program.firsts, cells))
         self.stores = {ask: dict(store) for ask, store in zip(program.keeping, stores)}
+        self.row_names = program.redone
         self.waiting = []
         self.done_alike = []
 
@@ -71,9 +72,8 @@ class Screen:
 
     def put_rows_together(self):
         """Put all rows together, so that no mark of a handler is left either."""
-        for name in list(self.cells):
-            if not isinstance(self.cells[name], int):
-                self.cells[name] = put_together(self.cells[name], self.program.worths)
+        for name in self.row_names:
+            self.cells[name] = put_together(self.cells[name], self.program.worths)
 
     def worth_of(self, name):
         """What a handler reads in a cell."""
@@ -160,21 +160,20 @@ class Screen:
 
     def take_back(self, task):
         """Take the guesses of a task back."""
-        for name in list(self.cells):
-            if name in task.guesses:
-                self.cells[name] = task.guesses[name]
-            elif not isinstance(self.cells[name], int):
-                self.cells[name] = without_task(self.cells[name], task.number)
+        for name, had in task.guesses.items():
+            self.cells[name] = had
+        for name in self.row_names:
+            self.cells[name] = without_task(self.cells[name], task.number)
         task.guesses = {}
 
     def settle(self, task):
         """Settle the guesses of a task that comes, and mark where its handler writes."""
         is_sure = task.phase == "answered"
-        for name in list(self.cells):
-            if not isinstance(self.cells[name], int):
-                self.cells[name] = with_settled(self.cells[name], task.number, is_sure)
-            elif name in task.guesses and not is_sure:
-                self.cells[name] = task.guesses[name]
+        for name in self.row_names:
+            self.cells[name] = with_settled(self.cells[name], task.number, is_sure)
+        if not is_sure:
+            for name, had in task.guesses.items():
+                self.cells[name] = had
 
     def call_off(self, ask):
         """Call all tasks of an ask off, the last one first."""

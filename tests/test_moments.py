@@ -7,7 +7,7 @@ from unittest import mock
 from lastasked.errors import BadDeeds, BadMany, TooMany
 from lastasked.moments import moments, shows_moments
 from tests.helper import comes, deed, does, made
-from tests.searches import FIND, drawn_deeds, lean_programs, pairs_of, second_led, second_moments, word_at_end
+from tests.searches import FIND, drawn_deeds, lean_programs, pairs_of, second_led, second_moments, steps_from, word_at_end
 from tests.test_rests import WIDE, WIDE_DEEDS
 
 FIRST = ((), (0,), (), ())
@@ -66,6 +66,22 @@ class WasAndSince(Told):
             (task("out"), ((), (1,)), 1): elder, (task("answered", 1), ((), (1,)), 1): elder,
             # As it is up to date, only what is shown was so since.
             (((), (1,), (), ()), ((), (1,)), 1): {(0,): [(True, False)], (1,): [(True, True)], (2,): [(False, False)]}})
+
+    def test_behind_sends_and_gone(self):
+        # Neither is a deed: what is known stays, unless the screen is up to date.
+        program = made(*FIND[:7], "  send find latest", *FIND[7:9], "  deed drop", "    off find", *FIND[9:])
+        deeds = (deed("type", 1), deed("type", 2), deed("drop"))
+        found = self.members(program, deeds)
+        words = {}
+        for (stand, plain, done), rows in found.items():
+            for move, behind, later, _, more in steps_from(program, 2, stand, plain, deeds, done):
+                if move[0] in ("sends", "gone"):
+                    up = stand[1] == plain[1]
+                    for picture, (was, since) in [(picture, known) for picture in rows for known in rows[picture]]:
+                        then = was, picture == stand[1] if up else since
+                        self.assertIn(then, found[behind, later, more][picture])
+                    words[move[0], up] = words.get((move[0], up), 0) + 1
+        self.assertGreaterEqual(set(words), {("sends", False), ("gone", False)})
 
     def test_of_a_way(self):
         # The plain meaning shows 1, 2 and 3 behind one deed, and 0 ahead of it.
