@@ -20,20 +20,19 @@ def ever(program):
     check_counted(program)
     course = Course(program)
     # If moments of some number is wrong, so are the rows for each: these looks come first, as rows take longer.
-    numbers = []
+    crowds = []
     is_told = True
     for most in GREATEST_BOUNDS:
         if is_told:
-            numbers.append(most)
+            crowds.append(Crowd(course, most))
             found = moments_if_told(course, most)
             if found[0] == "wrong":
                 return found
             is_told = found[0] == "right"
-    for most in numbers:
-        rows = right_rows(Crowd(course, most), is_told or most < numbers[-1])
-        if rows is not None:
-            return "right", rows
-    raise TooMany(MOST_MEMBERS)
+    rows = first_right_rows(crowds)
+    if rows is None:
+        raise TooMany(MOST_MEMBERS)
+    return "right", rows
 
 
 def moments_if_told(course, many):
@@ -42,6 +41,19 @@ def moments_if_told(course, many):
         return search(MomentsLook(course, many, None))
     except TooMany:
         return ("untold",)
+
+
+def first_right_rows(crowds):
+    """The first table of rows of which none is wrong; None if there is none, or it is too large."""
+    for n in range(len(crowds)):
+        word, rows = look_at_rows(crowds[n], MOST_MEMBERS)
+        if word == "right":
+            return rows if len(rows) <= MOST_MEMBERS else None
+        if word == "many":
+            # It is too large, or a wrong one is still to come: only then it counts what is told behind it.
+            later = first_right_rows(crowds[n + 1:])
+            return later if later is None or look_at_rows(crowds[n], None)[0] == "wrong" else None
+    return None
 
 
 def shows_ever(program, value):
@@ -108,26 +120,50 @@ def is_counted(program, listing, line, guessing):
     return True
 
 
-def right_rows(crowd, is_told):
-    """The table of all rows that lie in no other one; None if one is wrong. is_told: whether moments would tell."""
+def look_at_rows(crowd, limit):
+    """("right", the table of all rows that lie in no other one), or ("wrong", ()) if one is wrong.
+
+    ("many", ()) if more controls than the limit come ahead of a wrong one, None being no limit.
+    """
+    many = count_controls(crowd)
+    if many is None:
+        return "wrong", ()
     rows = Rows(crowd.most)
     for row in crowd.beginnings():
         rows.put_row(row)
     while len(rows.left) > 0:
+        # Each control has a row that lies in no other one.
+        if limit is not None and max(many, len(rows.found)) > limit:
+            return "many", ()
         row = rows.next_left()
         if row is None:
             continue
         for behind in crowd.nexts(row):
             if crowd.word_at(behind) != "":
-                return None
+                return "wrong", ()
             rows.put_row(behind)
-        # Each control has a row that lies in no other one. If one were wrong, moments would end likewise.
-        if len(rows.found) > MOST_MEMBERS and not is_told:
-            raise TooMany(MOST_MEMBERS)
     found = [(control, bounds) for control in rows.found for bounds in rows.found[control]]
-    if len(found) > MOST_MEMBERS:
-        raise TooMany(MOST_MEMBERS)
-    return tuple(sorted([crowd.told(row) for row in found]))
+    return "right", tuple(sorted([crowd.told(row) for row in found]))
+
+
+def count_controls(crowd):
+    """How many controls there are at least, more than MOST_MEMBERS being enough; None if a wrong one was seen.
+
+    Of each control only the first row that comes is followed, which is far less than all rows.
+    """
+    level = crowd.beginnings()
+    controls = {row[0]: True for row in level}
+    while len(level) > 0 and len(controls) <= MOST_MEMBERS:
+        following = []
+        for row in level:
+            for behind in crowd.nexts(row):
+                if crowd.word_at(behind) != "":
+                    return None
+                if behind[0] not in controls:
+                    controls[behind[0]] = True
+                    following.append(behind)
+        level = following
+    return len(controls)
 
 
 def are_right_rows(crowd, value):

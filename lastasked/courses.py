@@ -72,6 +72,12 @@ class Course:
             self.behind_tasks[stand] = found
         return self.behind_tasks[stand]
 
+    def behind_other(self, stand, move):
+        """The stand behind a possible move that is no deed. In a story it is not asked what the others lead to."""
+        if stand in self.behind_tasks:
+            return self.behind_tasks[stand][move]
+        return self.number_of(after_task(self.program, self.stands[stand], move[0], move[1]).as_stand())
+
     def plain_behind(self, plain, move):
         """(the plain stand behind a deed, its way)."""
         key = (plain, move)
@@ -98,7 +104,7 @@ class Course:
         if not is_possible(self.program, self.stands[stand], move):
             return None
         if move[0] != "deed":
-            return move, self.behind_others(stand)[move], plain, ()
+            return move, self.behind_other(stand, move), plain, ()
         behind = self.behind_deed(stand, move)
         return (move, behind) + self.plain_behind(plain, move) if self.is_let(behind, many) else None
 

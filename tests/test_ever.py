@@ -262,6 +262,21 @@ class ManyRows(unittest.TestCase):
             with self.assertRaises(TooMany):
                 ever(program)
 
+    def test_rows_that_are_right_but_too_many(self):
+        # Those for c = 1 are told, so if they are too many it does not count that those for c = 2 are fewer.
+        program = made("worths 4", "house", "  cell n 0", "  ask find", "    add n 1", "    answer n", "screen", "  cell x 0", "  cell y 0", "  show y",
+                       "  deed go", "    if x = 2", "      set x x", "    else", "      ask find 0", "      add x 1")
+        found = ever(program)
+        fewer = second_rows(program, 2)
+        self.assertEqual(found, ("right", second_rows(program, 1)))
+        self.assertLess(len(fewer), len({control for control, _ in found[1]}))
+        for most in (len(fewer) - 1, len(fewer), len(fewer) + 1, len(found[1]) - 1):
+            with mock.patch("lastasked.counting.MOST_MEMBERS", most):
+                with self.assertRaises(TooMany):
+                    ever(program)
+        with mock.patch("lastasked.counting.MOST_MEMBERS", len(found[1])):
+            self.assertEqual(ever(program), found)
+
     def test_of_moments_too(self):
         # Rows are wrong with c = 1, so moments with many = 1 is asked, and comes to too many.
         for many in (1, 2, 3):
