@@ -7,11 +7,11 @@ from unittest import mock
 from lastasked.counting import ever, least_many, shows_ever, shows_least_many
 from lastasked.errors import BadMany, NotCounted, TooMany
 from lastasked.moments import moments
-from lastasked.plain import plain_first
+from lastasked.plain import plain_first, plain_shown
 from lastasked.stands import first_stand
 from tests.crowd import counted, judge_rows, lies_in, second_rows
 from tests.helper import comes, deed, does, made
-from tests.searches import FIND, Counted, is_story, judge_moments, lean_programs, second_moments, word_at_end
+from tests.searches import FIND, Counted, is_story, judge_moments, lean_programs, pictures, second_moments, word_at_end
 from tests.test_moments import LAST, PAIR, RISING
 from tests.test_rests import THREE, WIDE, WIDE_DEEDS
 from tests.test_stands import ANY, changed
@@ -152,6 +152,38 @@ class Ever(Told):
         bounds = [part for _, row in found[1] for part in row]
         self.assertEqual({len(task[5]) for task, _ in bounds}, {0, 1})
 
+    def test_off_leaves_the_tasks_of_other_asks(self):
+        # As ant comes, cat is called off; an elder answer of bee can only have been there ahead of it.
+        program = made("worths 3", "house", "  cell n 0", "  ask cat", "  ask ant", "    set n 1", "  ask bee", "    answer n", "screen", "  cell k 0",
+                       "  cell y 0", "  show y", "  deed go", "    if k = 0", "      ask bee 0", "      ask ant 0", "      set k 1", "  answer ant",
+                       "    off cat", "    set k 2")
+        found = self.told(program)
+        self.assertEqual(found[0], "right")
+        self.assertEqual({task[:5] for control, bounds in found[1] if control[1] == (2, 0) for task, _ in bounds},
+                         {("bee", 0, "out", 0, "live"), ("bee", 0, "answered", 0, "live"), ("bee", 0, "answered", 1, "live")})
+
+    def test_bounds_are_ascending_behind_several_asks(self):
+        # The task of bee is there, that of ant stands ahead of it.
+        program = made("worths 3", "house", "  cell n 0", "  ask ant", "    set n 1", "  ask bee", "    set n 2", "screen", "  cell k 0", "  cell y 0",
+                       "  show y", "  deed go", "    if k = 0", "      ask bee 0", "      set k 1", "    else", "      if k = 1", "        ask bee 0",
+                       "        ask ant 0", "        set k 2")
+        found = self.told(program)
+        self.assertEqual({bounds for control, bounds in found[1] if (control[0], control[1]) == ((0,), (2, 0))},
+                         {((("ant", 0, "out", 0, "live", ()), 1), (("bee", 0, "out", 0, "live", ()), 0))})
+
+    def test_any_number_added_to_some(self):
+        # At last one that was called off, any number of passed ones and a live one are called off.
+        program = made("worths 4", "house", "  ask find", "screen", "  cell k 0", "  cell y 0", "  show y", "  take find last", "  deed go",
+                       "    if k = 0", "      ask find 0", "      set k 1", "    else", "      if k = 2", "        ask find 0", "  deed stop", "    if k = 1",
+                       "      off find", "      set k 2", "    else", "      if k = 2", "        off find", "        set k 3")
+        found = self.told(program)
+        self.assertEqual({bound for control, bounds in found[1] if control[1] == (3, 0) for _, bound in bounds}, {0})
+        for most in (1, 2, 3, 9):
+            less = tuple(sorted((control, tuple((task, most if control[1] == (3, 0) else bound) for task, bound in bounds))
+                                for control, bounds in found[1]))
+            self.assertIs(shows_ever(program, ("right", less)), False)
+            self.assertIs(judge_rows(program, less), False)
+
     def test_drawn(self):
         words = {}
         for seed, program in lean_programs(range(40), Counted):
@@ -242,6 +274,19 @@ class ManyRows(unittest.TestCase):
                         else:
                             self.assertEqual(ever(program), found)
 
+    def test_more_rows_than_controls(self):
+        # Both tasks are out, one is, or none is: three rows of one control, of which none lies in another one.
+        program = countdown(2)
+        found = ever(program)
+        controls = len({control for control, _ in found[1]})
+        self.assertLess(controls + 1, len(found[1]))
+        for most in (controls - 1, controls, len(found[1]) - 1):
+            with mock.patch("lastasked.counting.MOST_MEMBERS", most):
+                with self.assertRaises(TooMany):
+                    ever(program)
+        with mock.patch("lastasked.counting.MOST_MEMBERS", len(found[1])):
+            self.assertEqual(ever(program), found)
+
     def test_rows_that_are_wrong_may_be_more(self):
         # Those for c = 1 come to more controls than rows are told, but at last to a wrong one: by an ask that is done 15 times.
         program = made("worths 4", "house", "  cell n 0", "  cell h 0", "  ask find", "    add n 1", "    if n = 0", "      add h 1",
@@ -308,7 +353,8 @@ class ShowsEver(unittest.TestCase):
         self.told(True, program, ("wrong", five * 3 + (deed("type", 0), does(0), comes(0)), "elder"))
         self.told(False, program, ("wrong", five + (does(0), comes(0)), "elder"))
         for value in (("wrong", story, "never"), ("wrong", story), ("wrong", story[:-1], "elder"), ("wrong", story + (comes(0),), "elder"),
-                      ("wrong", list(story), "elder"), ["wrong", story, "elder"], ("right", story), ("wrong", (), "elder")):
+                      ("wrong", list(story), "elder"), ["wrong", story, "elder"], ("right", story), ("wrong", (), "elder"),
+                      ("right", story, "elder"), ("", story, "elder"), (True, story, "elder"), ("wrong", story, "elder", "elder")):
             self.told(False, program, value)
 
     def test_one_thing_otherwise(self):
@@ -401,6 +447,26 @@ class ShowsEver(unittest.TestCase):
                     row = control[:3] + ((task,),) + control[4:], less
                     self.told(False, program, ("right", tuple(sorted(table + (row,)))))
                 self.told(True, program, ("right", tuple(sorted(table + ((control, ((task, 4),)),)))))
+                for bound in (-1, -4, True, False, None, "1", (1,), [1]):
+                    self.told(False, program, ("right", table + ((control, ((task, bound),)),)))
+                    self.told(False, program, ("right", ((control, ((task, bound),)),) + table))
+                    self.told(False, program, ("right", table[:1] + ((control, ((task, bound),)),) + table[1:]))
+
+    def test_single_tasks_that_lead_to_no_other_rows(self):
+        # What these come to is there, but they stand where no such tasks can stand, out of sequence or twice.
+        program = made("worths 2", "house", "  ask ant", "  ask bee", "screen", "  cell k 0", "  cell y 0", "  show y", "  take bee last", "  send ant one",
+                       "  deed go", "    if k = 0", "      ask ant 0", "      ask bee 0", "      set k 1")
+        table = ever(program)[1]
+        ant, bee = ("ant", 0, "answered", 0, "live", ()), ("bee", 0, "answered", 0, "live", ())
+        for control, bounds in table:
+            if control[3] == (ant, bee):
+                empty = control[:3] + ((),) + control[4:]
+                for singles, more in (((bee, ant), ()), ((ant, ant), ()), ((ant, ant, bee), ()), ((), ((ant, 1),)), ((), ((bee, 1),)), ((ant,), ((bee, 1),)),
+                                      ((bee,), ((ant, 1),)), ((), ((ant, 1), (bee, 1)))):
+                    row = empty[:3] + (singles,) + empty[4:], more
+                    self.told(False, program, ("right", tuple(sorted(table + (row,)))))
+                self.assertEqual(bounds, ())
+        self.assertIn((ant, bee), [control[3] for control, _ in table])
 
     def test_wrong_rows(self):
         still = made("worths 2", "house", "  ask find", "screen", "  cell x 0", "  show x", "  deed go", "    set x x")
@@ -521,6 +587,16 @@ class LeastMany(unittest.TestCase):
             for told in (value, ("right", value), ("from", value, story, table), ("from", 2, value, table), ("from", 2, story, value)):
                 self.assertIs(shows_least_many(program, 3, told), False)
 
+    def test_from_none(self):
+        # No ask is under way behind this deed, but what it takes back is not what the plain meaning takes out.
+        program = made("worths 2", "house", "  ask find", "screen", "  cell x 0", "  cell y 0", "  show x y", "  send find resting", "  deed go",
+                       "    ask find 0 guess x = 1", "    set x 1", "    set y 1", "    off find")
+        found = self.told(program, 2)
+        self.assertEqual(found, ("from", 1, (deed("go"),), ()))
+        first = tuple(first_members(program))
+        for value in (("from", 0, found[2], first), ("from", 0, found[2], ()), ("from", 2, found[2], first), ("from", 1, found[2], first)):
+            self.assertIs(shows_least_many(program, 2, value), False)
+
     def test_many(self):
         for value in (0, 5, True, None, "1", (1,), [1]):
             for call in (lambda: least_many(made(*FIND), value), lambda: shows_least_many(made(*FIND), value, None)):
@@ -531,6 +607,14 @@ class LeastMany(unittest.TestCase):
     def test_by_name(self):
         program = made(*BOX)
         self.assertIs(shows_least_many(program=program, many=2, value=least_many(program=program, many=2)), True)
+
+
+def first_members(program):
+    """The members of moments ahead of all moves."""
+    stand, plain = first_stand(program), plain_first(program)
+    for picture in pictures(program):
+        so = picture == plain_shown(program, plain)
+        yield stand, plain, picture, so, so
 
 
 def moments_come_to(program, many, most):

@@ -285,6 +285,9 @@ class Shows(Told):
                 self.shows(False, program, 2, ("most", number, story, heights[:n] + heights[n:n + 1] + heights[n:]), hands)
                 more = heights[:n] + (heights[n][:2] + (heights[n][2] + 1,),) + heights[n:]
                 self.shows(False, program, 2, ("most", number + 1, story, tuple(sorted(more))), hands)
+                # With hands each of both heights fits, as long as the pair is not astray.
+                more = heights[:n] + tuple(heights[n][:2] + (height,) for height in range(heights[n][2], number + 1)) + heights[n + 1:]
+                self.shows(len(more) == len(heights), program, 2, ("most", number, story, more), hands)
             self.shows(False, program, 2, ("most", number, story, heights[::-1]), hands)
             self.shows(False, program, 2, ("most", number, story, list(heights)), hands)
             self.shows(False, program, 2, ("most", number, story, ()), hands)

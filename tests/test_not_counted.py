@@ -92,6 +92,14 @@ class Lines(unittest.TestCase):
                      "  deed queued", "    set redone 1", "  answer queued", "    ask off 0 guess in = 0")
         self.holds(names)
 
+    def test_cells_and_deeds_called_as_asks(self):
+        # What stands behind these names are no guesses of the asks.
+        rows = ("worths 2", "house", "  ask go", "  ask x", "screen", "  cell x 0", "  cell y 0", "  show y", "  unsure x = 1", "  deed go upto 1",
+                "    if x = 0", "      off go", "      off x", "    ask go 0", "    ask x 0")
+        self.holds(made(*rows))
+        self.fails(12, made(*rows[:13], "    ask go 0 guess y = 0", "    ask x 0"))
+        self.fails(13, made(*rows[:13], "    ask go 0", "    ask x 0 guess y = 0"))
+
     def test_any_value(self):
         for value in ANY:
             with self.assertRaises(NotCounted):
