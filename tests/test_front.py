@@ -93,6 +93,16 @@ class Front(Told):
             offers = ((("off", "type", "find"), prices[0]), (("take", "find", "last"), prices[1]))
             self.assertEqual([point[:2] for point in self.told(made(*FIND), offers, 2, ("rests",))[1]], points)
 
+    def test_one_of_the_same_price_behind_it(self):
+        # A refused guess stands for a while; without the guess nothing is ever shown that is not so.
+        program = made("worths 3", "house", "  ask save", "    if it = 2", "      refuse", "screen", "  cell c 0", "  show c", "  deed pick upto 2",
+                       "    ask save it guess c = it")
+        back, drop = ("back", "c", "redone"), ("drop", 10)
+        for prices, points in (((3, 3), [(3, -1, (drop,))]), ((3, 4), [(3, 1, (back,)), (4, -1, (drop,))]), ((4, 3), [(3, -1, (drop,))])):
+            found = self.told(program, ((back, prices[0]), (drop, prices[1])), 2, ("rests",))
+            self.assertEqual([row[1][0] for row in found[2]], ["wrong", "right", "right", "right"])
+            self.assertEqual(list(found[1]), points)
+
     def test_of_alike_ones_the_first(self):
         program = made(*SMALL)
         offers = ((("off", "type", "find"), 2), (("send", "find", "one"), 1), (("send", "find", "resting"), 1), (("take", "find", "last"), 1),)

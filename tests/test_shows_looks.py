@@ -6,7 +6,7 @@ import unittest
 from lastasked.moments import moments, shows_moments
 from lastasked.plain import plain_first
 from lastasked.rests import rests, shows_rests
-from lastasked.stands import first_stand, is_stand
+from lastasked.stands import first_stand, is_stand, shown
 from tests.helper import comes, deed, does, made
 from tests.searches import (
     FIND, closed_with, judge_moments_value, judge_rests_value, lean_programs, pictures, second_led, steps_from)
@@ -42,7 +42,7 @@ class Stories(Told):
     def test_not_wrong(self):
         for story in ((), STORY[:-1], STORY + (deed("type", 2), does(0), comes(0)), (deed("type", 1), does(0), comes(0))):
             self.rests_told(False, FULL, 2, ("wrong", story))
-            for word in ("elder", "never"):
+            for word in ("elder", "never", ""):
                 self.moments_told(False, FULL, 2, ("wrong", story, word))
 
     def test_a_wrong_moment_that_is_no_rest(self):
@@ -51,6 +51,20 @@ class Stories(Told):
         self.rests_told(False, FULL, 2, ("wrong", story))
         # What went wrong on the way is no moment at the end.
         self.moments_told(False, FULL, 2, ("wrong", story + (does(0), comes(0)), "elder"))
+
+    def test_where_nothing_is_shown(self):
+        # The plain meaning is never unsure, but the screen is where an answer comes that is not wanted any more.
+        program = made("worths 3", "house", "  ask find", "    answer it", "screen", "  cell x 0", "  cell want 0", "  show x", "  unsure x = 2",
+                       "  deed type upto 1", "    set want it", "    ask find it", "  answer find", "    if asked = want", "      set x it", "    else",
+                       "      set x 2")
+        story = (deed("type", 1), deed("type", 0), does(0), comes(0))
+        self.assertIsNone(shown(program, second_led(program, story)[-1][0]))
+        for n in range(1, len(story) + 1):
+            for word in ("never", "elder", ""):
+                self.moments_told(False, program, 2, ("wrong", story[:n], word))
+        # A rest that is unsure is wrong by itself.
+        self.rests_told(False, program, 2, ("wrong", story))
+        self.rests_told(True, program, 2, ("wrong", (deed("type", 1), deed("type", 0), does(1), comes(1), does(0), comes(0))))
 
     def test_for_many(self):
         for many in (1, 2, 3, 4):
