@@ -96,16 +96,14 @@ def faults_of_imports(tree):
 
 
 def is_own_handler(handler, own):
-    """Whether it catches one error of the package, by name, and does not keep it."""
-    return isinstance(handler.type, ast.Name) and handler.type.id in own and handler.name is None
+    """Whether it catches one error of the package, by name."""
+    return isinstance(handler.type, ast.Name) and handler.type.id in own
 
 
 def faults_of_nodes(tree, methods):
     """What stands in statements and values."""
     own = [alias.name for node in tree.body if isinstance(node, ast.ImportFrom) and node.module == f"{PACKAGE}.errors"
            for alias in node.names]
-    docs = [node.body[0].value for node in ast.walk(tree)
-            if isinstance(node, (ast.Module, ast.FunctionDef, ast.ClassDef)) and ast.get_docstring(node) is not None]
     for node in ast.walk(tree):
         if isinstance(node, STATEMENTS):
             yield node.lineno, f"{type(node).__name__} is not let here"
@@ -114,8 +112,6 @@ def faults_of_nodes(tree, methods):
         if isinstance(node, ast.Constant) and isinstance(node.value, str):
             if "%" in node.value:
                 yield node.lineno, "L27 a percent sign in a string"
-            if node not in docs and re.search(r"\b(register|mro|open|input|law)\b", node.value):
-                yield node.lineno, "L17 a word that is not let"
         if isinstance(node, ast.Constant) and isinstance(node.value, (float, complex)) or isinstance(node, ast.Div):
             yield getattr(node, "lineno", 1), "L7 a float"
         if isinstance(node, ast.Compare) and any(isinstance(op, (ast.Is, ast.IsNot)) for op in node.ops):

@@ -5,6 +5,7 @@ from lastasked.values import is_ascending, is_below, is_integer, is_row, is_word
 
 MOST_MANY = 4
 MOST_LED_DEEDS = 8
+MOST_PRICE = 9
 LOOKS = ("houses", "moments", "rests")
 
 
@@ -32,6 +33,11 @@ def is_deed(program, value):
 def has_deed(program, name, it):
     """Whether the program has a deed of this name, with this worth."""
     return is_word(name, program.hands) and is_below(it, program.hands[name][0] + 1)
+
+
+def is_price(value):
+    """Whether any value is a price."""
+    return is_integer(value) and 1 <= value <= MOST_PRICE
 
 
 def check_looks(looks):

@@ -1,9 +1,11 @@
 """What each choice of guards costs, and how long a wrong picture can stand with it."""
 
 from lastasked.checks import check_looks, check_many
-from lastasked.choices import are_right_tables, check_offers, choices_of, is_wrong_by, look_through
+from lastasked.choices import check_offers, choices_of
 from lastasked.courses import Course
+from lastasked.looks import looks_called
 from lastasked.standing import is_lasting, tell_lasting
+from lastasked.tables import are_right_tables, is_wrong_by, look_through
 from lastasked.values import is_row, is_same
 
 
@@ -14,7 +16,7 @@ def front(program, offers, many, looks):
     right = []
     for price, choice, made in choices_of(program, offers):
         course = Course(made)
-        found = look_through(course, many, looks)
+        found = look_through(looks_called(course, looks, many))
         if found[0] == "right":
             found = found + (tell_lasting(course, many, False),)
             right.append((price, found[2][1], choice))
@@ -49,8 +51,8 @@ def is_told(course, many, looks, value):
     if not is_row(value, 3):
         return False
     if value[0] == "wrong":
-        return is_wrong_by(course, many, looks, value[1], value[2])
-    if value[0] != "right" or not are_right_tables(course, many, looks, value[1]):
+        return is_wrong_by(looks_called(course, looks, many), value[1], value[2])
+    if value[0] != "right" or not are_right_tables(looks_called(course, looks, many), value[1]):
         return False
     return is_lasting(course, many, value[2], False)
 

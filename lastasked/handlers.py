@@ -1,7 +1,7 @@
 """Handlers of a screen, done statement by statement.
 
 The screen that they are passed has worth_of(cell), write(cell, word, worth),
-make_ask(ask, worth, guesses), call_off(ask), forget(ask) and make_anew().
+make_ask(ask, worth, guesses, line), call_off(ask), forget(ask) and make_anew().
 """
 
 
@@ -17,7 +17,7 @@ def do_handler(screen, block, it, asked):
             # All of E is worked out ahead of what the ask itself does to cells.
             worth = worth_of_value(screen, statement[2], it, asked)
             guesses = [(cell, sign, worth_of_value(screen, value, it, asked)) for cell, sign, value in statement[3]]
-            screen.make_ask(statement[1], worth, guesses)
+            screen.make_ask(statement[1], worth, guesses, statement[4])
         elif word == "off":
             screen.call_off(statement[1])
         elif word == "forget":

@@ -42,6 +42,16 @@ class Look:
         done = tuple([step[0] for step in steps if step[0][0] == "deed"])
         return steps if done == self.deeds[:len(done)] else None
 
+    def word_of(self, story):
+        """The word of what is wrong at the end of any value that is a story, or none."""
+        steps = self.steps_of(story)
+        if steps is None or len(steps) == 0:
+            return ""
+        member = self.beginning_of(self.course.pictures[steps[-1][1]])
+        for step in steps:
+            member = self.behind(member, step)
+        return self.word_at(member)
+
 
 class RestsLook(Look):
     """A rest is wrong that shows what the plain meaning does not; with houses also by the house's cells."""
@@ -52,13 +62,20 @@ class RestsLook(Look):
 
     def beginnings(self):
         """The members ahead of all moves."""
-        return [(self.course.first, self.course.first_plain, 0)]
+        return [self.beginning_of(None)]
+
+    def beginning_of(self, picture):
+        """The member ahead of all moves, of whatever picture."""
+        return self.course.first, self.course.first_plain, 0
 
     def nexts(self, member):
         """(move, member) for each possible move."""
-        stand, plain, done = member
-        steps = self.course.steps(stand, plain, self.many, self.hands_at(done))
-        return [(step[0], (step[1], step[2], self.done_behind(done, step[0]))) for step in steps]
+        steps = self.course.steps(member[0], member[1], self.many, self.hands_at(member[2]))
+        return [(step[0], self.behind(member, step)) for step in steps]
+
+    def behind(self, member, step):
+        """The member behind a step."""
+        return step[1], step[2], self.done_behind(member[2], step[0])
 
     def word_at(self, member):
         """The word of what is wrong, or none."""
@@ -81,16 +98,9 @@ class RestsLook(Look):
         pair = None if parts is None else self.course.pair_of(parts[0], parts[1])
         return None if pair is None else pair + (parts[2],)
 
-    def word_of(self, story):
-        """The word of what is wrong at the end of any value that is a story, or none."""
-        steps = self.steps_of(story)
-        if steps is None or len(steps) == 0:
-            return ""
-        return self.word_at((steps[-1][1], steps[-1][2], 0))
-
 
 class PairsLook(Look):
-    """Pairs of a stand and a plain stand alone, of which none is wrong."""
+    """Pairs of a stand and a plain stand alone, of which none is called wrong."""
 
     def beginnings(self):
         """The members ahead of all moves."""
@@ -101,20 +111,16 @@ class PairsLook(Look):
         steps = self.course.steps(member[0], member[1], self.many, self.course.hands)
         return [(step[0], (step[1], step[2])) for step in steps]
 
-    def word_at(self, member):
-        """None is wrong."""
-        return ""
-
 
 class MomentsLook(Look):
     """A moment is wrong that shows what was never so, or what was so before the screen was last up to date."""
 
     def beginnings(self):
         """The members ahead of all moves."""
-        return [self.first_of(picture) for picture in pictures_of(self.course.program)]
+        return [self.beginning_of(picture) for picture in pictures_of(self.course.program)]
 
-    def first_of(self, picture):
-        """The first member of a picture."""
+    def beginning_of(self, picture):
+        """The member ahead of all moves, of this picture."""
         first, plain = self.course.first, self.course.first_plain
         holds = picture == self.course.plain_pictures[plain]
         return first, plain, picture, holds, holds, 0
@@ -152,22 +158,17 @@ class MomentsLook(Look):
         pair = self.course.pair_of(parts[0], parts[1])
         return None if pair is None else pair + parts[2:]
 
-    def word_of(self, story):
-        """The word of what is wrong at the end of any value that is a story, or none."""
-        steps = self.steps_of(story)
-        if steps is None or len(steps) == 0:
-            return ""
-        member = self.first_of(self.course.pictures[steps[-1][1]])
-        for step in steps:
-            member = self.behind(member, step)
-        return self.word_at(member)
-
 
 def look_called(course, name, many, deeds=None):
     """The look of this name."""
     if name == "moments":
         return MomentsLook(course, many, deeds)
     return RestsLook(course, many, deeds, name == "houses")
+
+
+def looks_called(course, names, many, deeds=None):
+    """The looks of these names, each as (name, look)."""
+    return [(name, look_called(course, name, many, deeds)) for name in names]
 
 
 def known_behind(picture, was, since, shows, plain_shows, way):

@@ -12,6 +12,11 @@ TASK_WORDS = ("sends", "does", "comes", "gone")
 def moves(program, stand, many):
     """All possible moves, ascending."""
     check_many(many)
+    return possible_moves(program, stand, many)
+
+
+def possible_moves(program, stand, many):
+    """All possible moves, ascending, for a number of asks that may be under way."""
     found = []
     for name, upto in program.deeds:
         for it in range(upto + 1):
@@ -87,11 +92,10 @@ def after_task(program, stand, word, n):
     task = screen.tasks[n]
     if word == "does":
         does(screen, task)
+    elif word == "sends":
+        screen.send_out(task)
     else:
         screen.drop(task)
-    if word == "sends":
-        task.phase = "out"
-        screen.put(task)
     if word == "comes":
         comes(screen, task, n)
     screen.put_rows_together()

@@ -28,9 +28,9 @@ class PlainScreen(Screen):
         """All cells become as at first, and no guess is left."""
         self.cells = {name: (first, ()) for name, first, _ in self.program.cells}
 
-    def make_ask(self, ask, worth, guesses):
+    def make_ask(self, ask, worth, guesses, line):
         """Put an ask behind those that are left; send, take and keep count for nothing."""
-        task = Task(self.made, ask, worth, "out")
+        task = Task(self.made, ask, worth, "out", line)
         self.made += 1
         self.tasks.append(task)
         for name, word, much in guesses:
@@ -61,8 +61,12 @@ def plain_after(program, plain, name, it):
     """(plain stand behind a deed, its way)."""
     if not has_deed(program, name, it):
         raise NoMove((name, it))
-    screen = PlainScreen(program, plain)
-    screen.handle(program.hands[name][1], it, 0)
+    return done_plainly(PlainScreen(program, plain), program.hands[name][1], it)
+
+
+def done_plainly(screen, block, it):
+    """(plain stand behind a handler and all that it asks for, its way)."""
+    screen.handle(block, it, 0)
     way = [screen.picture_now()]
     while len(screen.tasks) > 0:
         screen.do_first()

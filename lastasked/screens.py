@@ -6,10 +6,14 @@ from lastasked.rows import (
 
 
 class Task:
-    """An ask that is under way. Its number stays while its place changes."""
+    """An ask that is under way. Its number stays while its place changes.
 
-    def __init__(self, number, ask, worth, phase):
+    line: where the statement stands that made it, 0 if it was there ahead of the move.
+    """
+
+    def __init__(self, number, ask, worth, phase, line=0):
         self.number = number
+        self.line = line
         self.ask = ask
         self.worth = worth
         self.phase = phase
@@ -109,7 +113,7 @@ class Screen:
         """The tasks of an ask that are not off."""
         return [task for task in self.tasks if task.ask == ask and task.mark != "off"]
 
-    def make_ask(self, ask, worth, guesses):
+    def make_ask(self, ask, worth, guesses, line):
         """Ask as keep and send of this ask tell."""
         if worth in self.stores.get(ask, {}):
             self.waiting.append((ask, worth, self.stores[ask][worth]))
@@ -128,14 +132,13 @@ class Screen:
             for task in [task for task in there if task.phase == "held"]:
                 self.take_back(task)
                 self.drop(task)
-        self.make_task(ask, worth, "held" if waits else "out", guesses)
+        self.make_task(Task(self.made, ask, worth, "held" if waits else "out", line), guesses)
 
-    def make_task(self, ask, worth, phase, guesses):
+    def make_task(self, task, guesses):
         """Make a task with its guesses."""
-        task = Task(self.made, ask, worth, phase)
         self.made += 1
-        if self.program.takes[ask] == "last":
-            pass_by(self.tasks_there(ask))
+        if self.program.takes[task.ask] == "last":
+            pass_by(self.tasks_there(task.ask))
         self.put(task)
         for name, word, much in guesses:
             if isinstance(self.cells[name], int):
@@ -157,6 +160,12 @@ class Screen:
     def drop(self, task):
         """Let a task be gone."""
         self.tasks = [other for other in self.tasks if other.number != task.number]
+
+    def send_out(self, task):
+        """Let a held task go out."""
+        self.drop(task)
+        task.phase = "out"
+        self.put(task)
 
     def take_back(self, task):
         """Take the guesses of a task back."""

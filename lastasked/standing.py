@@ -5,15 +5,16 @@ astray to one that is and shows the same, without hands any that is no deed. The
 which so many results can come: {pair: (move, pair behind it) on the way to the next result, None if none is needed}.
 """
 
+from lastasked.arrows import backwards, with_all_ahead
 from lastasked.looks import PairsLook
-from lastasked.tables import explore, story_to
+from lastasked.tables import story_to, ways_to_all
 from lastasked.values import is_ascending, is_integer, is_row
 
 
 def tell_lasting(course, many, hands):
     """("most", number, story, heights), or with hands ("endless", story, ring)."""
     look = PairsLook(course, many, None)
-    ways, _ = explore(look)
+    ways = ways_to_all(look)
     links = {pair: links_of(look, pair, hands) for pair in list(ways)}
     levels = levels_of(backwards(links), [pair for pair in links if course.is_astray(pair)])
     if is_endless(levels):
@@ -40,15 +41,6 @@ def is_same_fault(course, pair, other):
     return course.is_astray(pair) and course.is_astray(other) and course.pictures[pair[0]] == course.pictures[other[0]]
 
 
-def backwards(links):
-    """The links by the pairs to which they lead: {pair: [(move, pair ahead of it)]}."""
-    found = {pair: [] for pair in links}
-    for pair in links:
-        for move, behind in links[pair]:
-            found[behind].append((move, pair))
-    return found
-
-
 def levels_of(arrows, astray):
     """The levels from number 0 on, none of them empty; the last two are alike if there is no greatest number."""
     level = with_all_ahead(arrows, {pair: None for pair in astray})
@@ -69,19 +61,6 @@ def levels_of(arrows, astray):
 def is_endless(levels):
     """Whether results can come for ever: each level lies in the one ahead of it, so these are alike."""
     return len(levels) > 1 and len(levels[-1]) == len(levels[-2])
-
-
-def with_all_ahead(arrows, level):
-    """The level with all pairs from which links lead to it."""
-    found = {pair: level[pair] for pair in level}
-    left = list(found)
-    while len(left) > 0:
-        pair = left.pop()
-        for move, ahead in arrows[pair]:
-            if ahead not in found:
-                found[ahead] = (move, pair)
-                left.append(ahead)
-    return found
 
 
 def ring_of(level):

@@ -4,8 +4,8 @@ A statement is a tuple that begins with its word; E is a worth, or the word that
 worth is found (a cell, it, asked: no cell can be called so):
 ("set", cell, E), ("add", cell, E), ("if", E, E, statements, statements of else),
 of the house ("answer", E), ("refuse",),
-of the screen ("ask", ask, E, guesses), ("off", ask), ("forget", ask), ("anew",),
-guesses a tuple of (cell, "set" or "add", E).
+of the screen ("ask", ask, E, guesses, line), ("off", ask), ("forget", ask), ("anew",),
+guesses a tuple of (cell, "set" or "add", E), line where the statement stands, from 1.
 """
 
 from lastasked.lines import read_worth
@@ -95,7 +95,7 @@ def read_ask(lines, scope, words):
     worth = read_value(lines, scope, words[2])
     guesses = [read_guess(lines, scope, words[at:at + 4]) for at in range(3, len(words), 4)]
     lines.need(len(guesses) < 2 or guesses[0][0] != guesses[1][0])
-    return "ask", words[1], worth, tuple(guesses)
+    return "ask", words[1], worth, tuple(guesses), lines.at + 1
 
 
 def read_guess(lines, scope, words):

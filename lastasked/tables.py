@@ -1,7 +1,7 @@
 """Tables and stories of a look: how they are found, and whether any value is one."""
 
 from lastasked.errors import TooMany
-from lastasked.values import is_ascending, is_row
+from lastasked.values import is_ascending, is_row, is_word
 
 MOST_MEMBERS = 6000
 
@@ -28,6 +28,26 @@ def explore(look):
                 following.append(behind)
         level = following
     return ways, None
+
+
+def ways_to_all(look, *, limited=True):
+    """{member: (the one ahead of it, move), None for a first one} for all that come, of which none is called wrong.
+
+    The moves that led to one are of the fewest.
+    """
+    ways = {member: None for member in look.beginnings()}
+    level = list(ways)
+    while len(level) > 0:
+        following = []
+        for member in level:
+            for move, behind in look.nexts(member):
+                if behind not in ways:
+                    ways[behind] = (member, move)
+                    following.append(behind)
+            if limited and len(ways) > MOST_MEMBERS:
+                raise TooMany(MOST_MEMBERS)
+        level = following
+    return ways
 
 
 def search(look):
@@ -66,3 +86,26 @@ def is_right_table(look, value):
 def is_right_result(look, value):
     """Whether any value is ("right", table) of this look."""
     return is_row(value, 2) and value[0] == "right" and is_right_table(look, value[1])
+
+
+def look_through(named):
+    """("right", a table for each look), or ("wrong", the name of the first look that is, story); (name, look) each."""
+    tables = []
+    for name, look in named:
+        found = search(look)
+        if found[0] == "wrong":
+            return "wrong", name, found[1]
+        tables.append(found[1])
+    return "right", tuple(tables)
+
+
+def are_right_tables(named, tables):
+    """Whether any value is a right table for each look."""
+    if not is_row(tables, len(named)):
+        return False
+    return all([is_right_table(look, table) for (_, look), table in zip(named, tables)])
+
+
+def is_wrong_by(named, name, story):
+    """Whether any values are the name of one of these looks and a story that is wrong by it."""
+    return any([is_word(name, (other,)) and look.word_of(story) != "" for other, look in named])

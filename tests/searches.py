@@ -26,7 +26,11 @@ class SecondPlain(Second):
 
     def deed(self, name, it, text):
         """(plain stand, way)."""
-        self.handler(self.deeds[name][1], it, None, {})
+        return self.way_of(self.deeds[name][1], it, text)
+
+    def way_of(self, lines, it, text):
+        """(plain stand, way) behind these lines."""
+        self.handler(lines, it, None, {})
         way = []
         while True:
             self.tasks = [task for task in self.tasks if task["mark"] != "off"]
