@@ -4,7 +4,8 @@ import inspect
 import unittest
 
 from lastasked import (
-    counting, errors, fronts, guards, lasting, led, moments, moves, plain, programs, rests, stands)
+    counting, desk, errors, exchanging, fronts, guards, guesses, journals, keeper, lasting, led, moments, moves, plain, programs, rests, stands, steady,
+    stories, texts)
 from tests.helper import made
 
 LISTED = {
@@ -20,8 +21,22 @@ LISTED = {
     lasting: {"lasting": ["program", "many", "*hands"], "shows_lasting": ["program", "many", "value", "*hands"]},
     guards: {"with_guards": ["program", "guards"], "guarded": ["program", "offers", "many", "looks", "*deeds"],
              "shows_guarded": ["program", "offers", "many", "looks", "value", "*deeds"]},
-    fronts: {"front": ["program", "offers", "many", "looks"], "shows_front": ["program", "offers", "many", "looks", "value"]}}
-DEFAULTS = {"houses": False, "deeds": None, "hands": True}
+    fronts: {"front": ["program", "offers", "many", "looks"], "shows_front": ["program", "offers", "many", "looks", "value"]},
+    guesses: {"upon": ["program", "many"], "shows_upon": ["program", "many", "value"]},
+    steady: {"steady": ["program", "many"], "shows_steady": ["program", "many", "value"]},
+    stories: {"needed": ["program", "many", "looks", "deeds"], "shows_needed": ["program", "many", "looks", "deeds", "value"]},
+    exchanging: {"changing": ["programs", "many", "looks", "*bars"], "shows_changing": ["programs", "many", "looks", "value", "*bars"],
+                 "barred": ["programs", "many", "looks", "prices"], "shows_barred": ["programs", "many", "looks", "prices", "value"]},
+    keeper: {"Keeper": ["program", "many"], "shows_outlook": ["keeper", "value"]},
+    texts: {"show_story": ["story"], "read_story": ["text"]}, journals: {"read_journal": ["text"]}, desk: {"Desk": ["text"]}}
+METHODS = {
+    keeper.Keeper: {"do": ["move"], "moves": [], "exchange": ["newer"], "undo": [], "redo": [], "wrongs": [], "outlook": [], "missing": ["offers", "looks"],
+                    "trial": [], "tried": ["look", "*keep"], "copy": [], "__iter__": [], "__eq__": ["other"]},
+    desk.Desk: {"say": ["line"]}, programs.Program: {"__eq__": ["other"]}}
+PROPERTIES = {
+    keeper.Keeper: ("program", "programs", "many", "stand", "plain", "shown", "plain_shown", "story", "journal"), desk.Desk: ("keeper",),
+    programs.Program: ("text", "worths", "in_order", "house", "asks", "cells", "shows", "deeds")}
+DEFAULTS = {"houses": False, "deeds": None, "hands": True, "bars": (), "keep": False}
 FIND = ("worths 2", "house", "  ask find", "    answer it", "screen", "  cell x 0", "  show x", "  deed type upto 1",
         "    ask find it", "  answer find", "    set x it")
 
@@ -33,12 +48,32 @@ class Interface(unittest.TestCase):
                 with self.subTest(name):
                     thing = getattr(module, name)
                     self.assertEqual(thing.__module__, module.__name__)
-                    told = []
-                    for parameter in inspect.signature(thing).parameters.values():
-                        by_name = parameter.kind is parameter.KEYWORD_ONLY
-                        told.append("*" * by_name + parameter.name)
-                        self.assertIs(parameter.default, DEFAULTS[parameter.name] if by_name else parameter.empty)
-                    self.assertEqual(told, parameters)
+                    self.parameters(list(inspect.signature(thing).parameters.values()), parameters)
+
+    def parameters(self, found, wanted):
+        told = []
+        for parameter in found:
+            by_name = parameter.kind is parameter.KEYWORD_ONLY
+            told.append("*" * by_name + parameter.name)
+            if parameter.name in ("looks", "deeds") and not by_name:
+                self.assertIs(parameter.default, parameter.empty)
+            else:
+                self.assertEqual(repr(parameter.default), repr(DEFAULTS[parameter.name] if by_name else parameter.empty))
+        self.assertEqual(told, wanted)
+
+    def test_methods_stand_in_their_class(self):
+        for kind, methods in METHODS.items():
+            for name, parameters in methods.items():
+                with self.subTest(kind=kind, name=name):
+                    self.assertIn(name, vars(kind))
+                    self.parameters(list(inspect.signature(vars(kind)[name]).parameters.values())[1:], parameters)
+
+    def test_properties_are_there_from_the_first(self):
+        program = made(*FIND)
+        one = keeper.Keeper(program, 2)
+        for thing in (program, one, desk.Desk(one.journal)):
+            for name in PROPERTIES[type(thing)]:
+                self.assertTrue(hasattr(thing, name), name)
 
     def test_by_name(self):
         program = programs.Program(text="\n".join(FIND))
