@@ -35,7 +35,8 @@ def ends_of(course, stands):
     rests = {}
     for stand in stands:
         if is_rest(course, stand):
-            rests.setdefault(course.pictures[stand], {})[stand] = None
+            alike = rests.setdefault(course.pictures[stand], {})
+            alike[stand] = None
     return {shows: with_all_ahead(arrows, rests[shows]) for shows in rests}
 
 

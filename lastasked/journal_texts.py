@@ -1,16 +1,18 @@
-"""What a keeper did, as a text."""
+"""The rows of a journal."""
 
+from lastasked.overs import OVER
 from lastasked.texts import text_of_move
 
 
-def journal_of(many, pages):
-    """The text for so many asks and these pages."""
-    rows = [f"many {many}", "program"] + deeper(pages[0].program.text, 1) + ["story"]
-    for page in pages[1:]:
-        rows.append("  " + text_of_move(page.move))
-        if page.move == ("over",):
-            rows.extend(deeper(page.program.text, 2))
-    return "\n".join(rows)
+def rows_ahead(program, many):
+    """What stands ahead of all moves."""
+    return "\n".join([f"many {many}", "program"] + deeper(program.text, 1) + ["story"])
+
+
+def rows_of_move(move, program):
+    """What stands for a move; program is the one behind it."""
+    rows = ["  " + text_of_move(move)]
+    return "\n".join(rows + deeper(program.text, 2) if move == OVER else rows)
 
 
 def deeper(text, depth):

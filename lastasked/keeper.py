@@ -5,7 +5,6 @@ from lastasked.courses import Course
 from lastasked.ends import StandsLook, is_outlook, tell_outlook
 from lastasked.errors import BadDeeds, BadPrograms, Exchanged, NoMove, NothingToRedo, NothingToUndo
 from lastasked.guards import guarded
-from lastasked.journal_texts import journal_of
 from lastasked.moves import possible_moves
 from lastasked.overs import OVER, do_suit
 from lastasked.pages import first_page, page_behind, page_over, wrongs_of
@@ -20,7 +19,7 @@ class Keeper:
     def __init__(self, program, many):
         check_many(many)
         self.many = many
-        self.turn_to((first_page(program),), ())
+        self.turn_to((first_page(program, many),), ())
 
     def turn_to(self, pages, undone):
         """Go on from these pages."""
@@ -34,7 +33,7 @@ class Keeper:
         self.shown = last.shown
         self.plain_shown = last.plain_shown
         self.story = tuple([page.move for page in pages[1:]])
-        self.journal = journal_of(self.many, pages)
+        self.journal = "\n".join([page.rows for page in pages])
 
     def do(self, move):
         """Do any value that is a possible move; what is shown behind it."""

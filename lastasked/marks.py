@@ -41,16 +41,18 @@ class MarksLook:
         """(move, stand behind it, makers) for each possible move, makers telling (number, line) of each task there."""
         if stand not in self.found_steps:
             value = self.course.stands[stand]
-            screens = [((word, n), after_task(self.program, value, word, n))
-                       for word, n in task_moves(self.program, value[3])]
+            steps = [self.step_to(move, after_task(self.program, value, move[0], move[1]))
+                     for move in task_moves(self.program, value[3])]
             for move in self.course.hands:
                 screen = after_deed(self.program, value, move[1], move[2])
                 if len(screen.tasks) <= self.many:
-                    screens.append((move, screen))
-            self.found_steps[stand] = [
-                (move, self.course.number_of(screen.as_stand()), [(task.number, task.line) for task in screen.tasks])
-                for move, screen in screens]
+                    steps.append(self.step_to(move, screen))
+            self.found_steps[stand] = steps
         return self.found_steps[stand]
+
+    def step_to(self, move, screen):
+        """The step of a move that has led to this screen."""
+        return move, self.course.number_of(screen.as_stand()), [(task.number, task.line) for task in screen.tasks]
 
     def has_at(self, stand):
         """For each task of a stand the ascending tuple of the cells of which it still has guesses."""

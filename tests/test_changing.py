@@ -225,6 +225,17 @@ class ShowsChanging(Told):
             self.shows(False, programs, 2, ("moments",), ("wrong", "moments", found[2][:n]))
         self.shows(True, programs, 2, ("moments",), ("wrong", "moments", (deed("type"), does(0), comes(0)) + found[2]))
 
+    def test_what_was_so_at_first(self):
+        # It is the first program that tells it: the newer one's x is 1 at first, but keeps what it was.
+        rows = ("worths 3", "house", "  ask find", "    answer it", "screen")
+        more = ("  show x", "  take find last", "  deed type upto 2", "    ask find it", "  answer find", "    set x it")
+        programs = (made(*rows, "  cell x 0", *more), made(*rows, "  cell x 1", *more))
+        for story in ((deed("type", 2),), (deed("type", 2), OVER), (OVER, deed("type", 2)), (OVER, deed("type", 1), deed("type", 2)), (deed("type", 2), OVER, does(0))):
+            for look in ("moments", "rests"):
+                self.shows(False, programs, 2, ("moments", "rests"), ("wrong", look, story))
+        self.assertEqual(self.told(programs, 2, LOOKS)[0], "let")
+        self.assertEqual(self.told(programs[::-1], 2, LOOKS)[0], "let")
+
     def test_unfit_programs(self):
         # It judges what is told alone: neither Unfit nor TooMany is raised.
         find = made(*FIND)
@@ -372,6 +383,12 @@ class Barred(Told):
         late = made("worths 3", "house", "  ask find", "    answer it", "screen", "  cell x 0", "  show x", "  take find last", "  deed go", "    set x 1", "  answer find", "    set x it", "  over", "    ask find 2")
         found = self.told_barred((falls, late), 2, ("rests",), (4,))
         self.assertEqual([found[0], [reason[:2] for reason in found[1]]], ["none", [((), "rests"), (("find",), "rests")]])
+        # Of two asks, of which the first one stands behind the other as a name.
+        two = [made("worths 3", "house", "  ask find", "    answer it", "  ask also", *program.text.split("\n")[4:]) for program in (falls, late)]
+        found = self.told_barred(tuple(two), 2, ("rests",), (1, 2))
+        self.assertEqual([reason[0] for reason in found[1]], [(), ("find",), ("also",), ("also", "find")])
+        found = self.told_barred(tuple(two), 2, ("rests",), (3, 2))
+        self.assertEqual([reason[0] for reason in found[1]], [(), ("also",), ("find",), ("also", "find")])
 
     def test_several_looks(self):
         found = self.told_barred((ELDER, NEWER), 2, LOOKS, (5,))

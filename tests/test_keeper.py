@@ -35,7 +35,7 @@ def seen(keeper):
 def all_seen(keeper):
     """All that a keeper shows, and all that can be undone and done again in it."""
     other = keeper.copy()
-    found = [seen(other)]
+    found = [seen(keeper), seen(other)]
     for call, error in ((other.redo, NothingToRedo), (other.undo, NothingToUndo)):
         while True:
             try:

@@ -201,6 +201,11 @@ class Shows(Told):
         self.shows(False, TYPE, 2, ("rests",), self.DEEDS, ("none", found[4]))
         self.shows(False, TYPE, 2, ("rests",), self.DEEDS, ("none", found[4] + tuple((numbers, found[4][-1][1]) for numbers in ((0, 2), (1, 2), (0, 1, 2)))))
 
+    def test_its_word(self):
+        for found in (needed(TYPE, 2, ("rests",), self.DEEDS), needed(made(*LAST), 2, ("rests",), (ONE, TWO))):
+            for word in ("none", "deeds", "right", "None", "", None, 0, True):
+                self.shows(word == found[0], TYPE if len(found) > 2 else made(*LAST), 2, ("rests",), self.DEEDS if len(found) > 2 else (ONE, TWO), (word,) + found[1:])
+
     def test_rows(self):
         for program, deeds in ((TYPE, self.DEEDS), (made(*LAST), (ONE, TWO))):
             found = needed(program, 2, ("moments", "rests"), deeds)

@@ -100,6 +100,11 @@ class Outlook(Told):
             self.assertEqual([other.shown, other.stand[3]], [shows, ()])
             self.assertFalse([move for move in course if move[0] == "deed"])
 
+    def test_courses_of_one_move(self):
+        keeper = kept(made(*FIND, "    off find"), 2, *TWO, does(0), does(1))
+        self.assertEqual(self.told(keeper), ("open", (((1,), (comes(0),)), ((2,), (comes(1),)))))
+        self.shows(False, keeper, ("open", (((1,), (comes(1),)), ((2,), (comes(0),)))))
+
     def test_behind_an_exchange(self):
         newer = made(*FIND, "  over", "    ask find 2")
         keeper = kept(LAST, 2, deed("type", 1))

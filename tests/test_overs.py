@@ -138,22 +138,23 @@ class Held(Told):
 
     def test_of_all_that_go_the_last_first(self):
         rows = (*HOUSE, "screen", "  cell x 0", "  show x")
-        more = ("  deed pick upto 3", "    ask save it guess x = it", "  deed get upto 3", "    ask load it guess x = it")
+        more = ("  deed pick upto 3", "    ask save it guess x = it", "  deed both", "    ask save 2 guess x = 2", "    ask load 3 guess x = 3")
         elder = made(*rows, "  send load queued", "  send save queued", *more)
-        story = (deed("pick", 1), deed("get", 2), deed("pick", 2), deed("get", 3), deed("get", 0), deed("pick", 3))
-        newer = made(*rows, "  send load latest", "  send save resting", *more)
-        keeper = Keeper(elder, 4)
-        keeper = self.over(elder, newer, *story[:4])
-        self.assertEqual([keeper.stand[1], len(keeper.stand[3])], [(3,), 4])
-        # pick 2 had 2 (of get), get 3 had 2: the first of these that goes had 2.
-        self.assertEqual([task[5] for task in keeper.stand[3]], [(("x", 0),), (("x", 1),), (("x", 2),), (("x", 2),)])
-        slow = made(*rows, "  send load queued", "  send save queued", "  deed all", "    ask save 1 guess x = 1", "    ask load 2 guess x = 2", *more[2:])
-        quick = made(*rows, "  send load latest", "  send save latest", "  deed all", "    ask save 1 guess x = 1", "    ask load 2 guess x = 2", *more[2:])
+        for word in ("latest", "resting"):
+            newer = made(*rows, f"  send load {word}", f"  send save {word}", *more)
+            # x was 0, 1, 2, 3 and is 0: pick 3's guess had 2, and pick 2's, which goes behind it, had 1.
+            keeper = self.over(elder, newer, deed("pick", 1), deed("pick", 2), deed("pick", 3), deed("pick", 0))
+            self.assertEqual([keeper.stand[1], [task[1] for task in keeper.stand[3]]], [(1,), [1, 0]])
+        # Across asks, too: load's goes first, then save's, which had 3.
+        slow = made(*rows, "  send load queued", "  send save queued", "  deed all", "    ask save 1 guess x = 1", "    ask load 2 guess x = 2")
+        quick = made(*rows, "  send load resting", "  send save resting", "  deed all", "    ask save 1 guess x = 1", "    ask load 2 guess x = 2")
+        stand = ((), (2,), (), (("save", 1, "held", 0, "live", (("x", 3),)), ("load", 2, "held", 0, "live", (("x", 1),)), ("save", 1, "held", 0, "live", (("x", 0),)), ("load", 2, "held", 0, "live", (("x", 0),))))
+        self.assertTrue(is_stand(slow, stand))
         keeper = Keeper(slow, 4)
-        for move in (deed("all"), deed("all")):
-            keeper.do(move)
-        self.assertEqual([task[2] for task in keeper.stand[3]], ["out", "out", "held", "held"])
-        self.assertEqual(keeper.exchange(quick), (2,))
+        keeper.pages[0].stand = keeper.stand = stand
+        keeper.exchange(quick)
+        self.assertEqual(repr(keeper.stand), repr(stand_over(slow, quick, stand)))
+        self.assertEqual([keeper.stand[1], keeper.stand[3]], [(3,), stand[3][2:]])
 
     def test_marks_stay(self):
         # A held one that is passed stays so; take of the newer one changes no mark.

@@ -268,6 +268,15 @@ class Shows(Told):
             self.shows(False, program, 2, ("parts", story, other, one[:n] + (deed("nothing"),) + one[n:]))
         self.shows(True, program, 2, ("parts", story + (deed("nothing"),), one, other))
 
+    def test_courses_of_one_move(self):
+        # What comes first lets all others be gone.
+        program = made(*FIND, "    off find")
+        story = (deed("type", 1), deed("type", 2), does(0), does(1))
+        for one, other, wanted in (((comes(0),), (comes(1),), True), ((comes(1),), (comes(0),), True), ((comes(0),), (comes(0),), False), ((comes(0),), (), False), ((), (comes(1),), False),
+                                   ((comes(0), comes(0)), (comes(1),), False), ((comes(2),), (comes(0),), False)):
+            self.shows(wanted, program, 2, ("parts", story, one, other))
+        self.assertEqual(self.told(program, 2)[0], "parts")
+
     def test_none_beside_a_picture(self):
         _, story, one, other = steady(UNSURE, 2)
         stand = behind(UNSURE, *story)
