@@ -108,9 +108,8 @@ class Keeper:
         return other
 
     def __eq__(self, other):
-        if not isinstance(other, Keeper) or self.many != other.many:
-            return False
-        return self.programs == other.programs and self.story == other.story
+        return (isinstance(other, Keeper) and self.many == other.many
+                and self.programs == other.programs and self.story == other.story)
 
 
 class Trial:

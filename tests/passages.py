@@ -1,6 +1,7 @@
 """A plain second reading of section 14, with plain searches and judges over exchanges, and drawn programs for them."""
 
 import random
+from unittest import mock
 
 from lastasked.errors import TooMany
 from lastasked.moments import moments
@@ -126,10 +127,10 @@ def moments_over(programs, many, bars, most=6000):
     return "right", found
 
 
-def look_over(programs, many, look, bars):
+def look_over(programs, many, look, bars, most=6000):
     if look == "moments":
-        return moments_over(programs, many, bars)
-    return rests_over(programs, many, bars, look == "houses")
+        return moments_over(programs, many, bars, most)
+    return rests_over(programs, many, bars, look == "houses", most)
 
 
 def led_over(programs, many, bars, story):
@@ -237,8 +238,10 @@ def drawn_programs(seed, many=2):
 
 
 def is_fit(program, asks, look):
+    """Whether a program that comes to few members is right by itself."""
     try:
-        found = moments(program, asks) if look == "moments" else rests(program, asks, houses=look == "houses")
+        with mock.patch("lastasked.tables.MOST_MEMBERS", 400):
+            found = moments(program, asks) if look == "moments" else rests(program, asks, houses=look == "houses")
     except TooMany:
         return False
     return found[0] == "right"

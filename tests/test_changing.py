@@ -179,7 +179,8 @@ class Changing(Told):
             if not programs or not all(is_fit_by(program, many, looks) for program in programs):
                 continue
             bars = tuple(sorted(draw.sample([ask[0] for ask in programs[0].asks], draw.randint(0, 1))))
-            if look_over(programs, many, looks[0], bars) == ("many",) or look_over(programs, many, looks[-1], bars) == ("many",):
+            # Only those that come to few members are laid beside the plain search.
+            if ("many",) in [look_over(programs, many, look, bars, 600) for look in looks]:
                 continue
             word = self.told(programs, many, looks, bars)[0]
             count[word] = count.get(word, 0) + 1
