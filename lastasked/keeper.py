@@ -113,23 +113,26 @@ class Keeper:
 
 
 class Trial:
-    """A block behind which a keeper is as it was ahead of it, if it is not kept."""
+    """A block behind which a keeper is as it was ahead of it, if it is not kept.
+
+    kept: True if it is to be kept, otherwise None.
+    """
 
     def __init__(self, keeper):
         self.keeper = keeper
-        self.is_kept = False
+        self.kept = None
 
     def keep(self):
         """Let the keeper stay as it is at the end of the block, if no error leaves it."""
-        self.is_kept = True
+        self.kept = True
 
     def __enter__(self):
-        self.is_kept = False
+        self.kept = None
         self.ahead = self.keeper.copy()
         return self
 
     def __exit__(self, kind, value, trace):
-        if kind is not None or not self.is_kept:
+        if kind is not None or self.kept is None:
             self.keeper.pages = self.ahead.pages
             self.keeper.undone = self.ahead.undone
             self.keeper.program = self.ahead.program
