@@ -155,7 +155,7 @@ def count_controls(crowd):
     controls = {row[0]: True for row in level}
     while len(level) > 0 and len(controls) <= MOST_MEMBERS:
         following = []
-        for row in level:
+        for row in list(level):
             for behind in crowd.nexts(row):
                 if crowd.word_at(behind) != "":
                     return None
