@@ -18,7 +18,7 @@ def explore(look):
         if len(ways) > MOST_MEMBERS:
             raise TooMany(MOST_MEMBERS)
         following = []
-        for member in level:
+        for member in list(level):
             for move, behind in look.nexts(member):
                 if behind in ways:
                     continue
@@ -39,7 +39,7 @@ def ways_to_all(look, *, limited=True):
     level = list(ways)
     while len(level) > 0:
         following = []
-        for member in level:
+        for member in list(level):
             for move, behind in look.nexts(member):
                 if behind not in ways:
                     ways[behind] = (member, move)
