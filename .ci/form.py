@@ -26,6 +26,8 @@ METHODS = set("""append clear copy count endswith extend find get index insert i
     translate add discard""".split())
 NO_ATTRIBUTES = set("""items keys values pop update append clear extend insert remove reverse setdefault sort args encode
     decode hex fromhex format""".split())
+CHANGES = set("append clear extend insert pop remove reverse setdefault sort update add discard".split())
+VIEWS = ("items", "keys", "values")
 STATEMENTS = (ast.Global, ast.AsyncFunctionDef, ast.AsyncFor, ast.AsyncWith, ast.Await, ast.GeneratorExp)
 
 
@@ -127,6 +129,81 @@ def faults_of_nodes(tree, methods):
             yield 1, "L24 a set is iterated"
 
 
+def is_let_in_exit(test):
+    """Whether a test asks names and attributes by is None and is not None alone, as some class compares (L6 With)."""
+    if isinstance(test, ast.BoolOp):
+        return all(is_let_in_exit(part) for part in test.values)
+    if isinstance(test, ast.UnaryOp) and isinstance(test.op, ast.Not):
+        return is_let_in_exit(test.operand)
+    return (isinstance(test, ast.Compare) and isinstance(test.left, (ast.Name, ast.Attribute))
+            and [isinstance(op, (ast.Is, ast.IsNot)) for op in test.ops] == [True]
+            and isinstance(test.comparators[0], ast.Constant) and test.comparators[0].value is None)
+
+
+def faults_of_exits(tree):
+    """What the tests in __exit__ ask."""
+    for node in ast.walk(tree):
+        if isinstance(node, ast.FunctionDef) and node.name == "__exit__":
+            for row in ast.walk(node):
+                if isinstance(row, ast.If) and not is_let_in_exit(row.test):
+                    yield row.lineno, "L6 a test in __exit__ that is not by is None"
+
+
+def lists_in(node):
+    """The names, attributes and items that a value or the head of a loop may be, or goes over."""
+    if isinstance(node, (ast.Name, ast.Attribute, ast.Subscript)):
+        return {ast.unparse(node)}
+    if isinstance(node, ast.NamedExpr):
+        return lists_in(node.value)
+    parts = []
+    if isinstance(node, ast.IfExp):
+        parts = [node.body, node.orelse]
+    elif isinstance(node, ast.BoolOp):
+        parts = node.values
+    elif isinstance(node, ast.Call) and ast.unparse(node.func) in ("enumerate", "zip", "reversed"):
+        parts = node.args
+    elif isinstance(node, ast.Call) and isinstance(node.func, ast.Attribute) and node.func.attr in VIEWS:
+        parts = [node.func.value]
+    return {name for part in parts for name in lists_in(part)}
+
+
+def names_alike(function):
+    """A function from a name, attribute or item to all that may be one list with it, by the assignments there."""
+    groups = [{name for part in [*node.targets, node.value] for name in lists_in(part)} for node in ast.walk(function)
+              if isinstance(node, ast.Assign)]
+
+    def alike(name):
+        found, many = {name}, 0
+        while many < len(found):
+            many = len(found)
+            found = found.union(*[group for group in groups if group & found])
+        return found
+    return alike
+
+
+def lists_changed(rows):
+    """(line, name, attribute or item) of all that is changed in these rows."""
+    for node in [node for row in rows for node in ast.walk(row)]:
+        if isinstance(node, ast.Call) and isinstance(node.func, ast.Attribute) and node.func.attr in CHANGES:
+            yield node.lineno, ast.unparse(node.func.value)
+        elif isinstance(node, ast.Subscript) and not isinstance(node.ctx, ast.Load):
+            yield node.lineno, ast.unparse(node.value)
+        elif isinstance(node, ast.AugAssign):
+            yield node.lineno, ast.unparse(node.target)
+
+
+def faults_of_loops(tree):
+    """What a loop walks is not changed in it, by whatever name."""
+    for function in ast.walk(tree):
+        if isinstance(function, ast.FunctionDef):
+            alike = names_alike(function)
+            for loop in [node for node in ast.walk(function) if isinstance(node, ast.For)]:
+                walked = {name for head in lists_in(loop.iter) for name in alike(head)}
+                for line, name in lists_changed(loop.body):
+                    if name in walked:
+                        yield line, f"L23 {name} is changed where a loop walks it"
+
+
 def faults_of_classes(trees):
     """No name is a method and an attribute, wherever they stand."""
     methods, attributes = set(), set()
@@ -162,7 +239,8 @@ def main():
     told = [f"{PACKAGE}: {fault}" for fault in [*faults_of_classes(trees), *faults_of_rings(trees)]]
     for path, tree in zip(files, trees.values()):
         found = list(faults_of_lines(path.read_text("utf-8").split("\n")))
-        for more in (faults_of_names(tree), faults_of_imports(tree), faults_of_nodes(tree, methods)):
+        for more in (faults_of_names(tree), faults_of_imports(tree), faults_of_nodes(tree, methods),
+                     faults_of_exits(tree), faults_of_loops(tree)):
             found.extend(more)
         told += [f"{path}:{line}: {fault}" for line, fault in sorted(found)]
     print("\n".join(told) or f"form: {len(files)} files are right")
